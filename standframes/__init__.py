@@ -1,0 +1,1 @@
+"""Frames that stand and linkages that move."""
