@@ -1,18 +1,13 @@
 """New frames and loads, made from given ones."""
 
 from standframes.checks import need_bar_there, need_frame, need_joints_there, need_names, need_point, need_velocities
-from standframes.errors import FlatMap, OutOfBounds, RepeatedName, WrongKind
-from standframes.frames import Frame, is_across, is_role, need_each_once, need_name, need_new_bars
+from standframes.errors import FlatMap, OutOfBounds, WrongKind
+from standframes.frames import Frame, is_across, is_role, need_each_once, need_name
 from standframes.loads import load_of, need_load
 from standframes.points import cross_product, mapped_point, sum_point
 from standframes.ratios import is_ratio, need_ratio
 
 ZERO = ((0, 1), (0, 1))
-
-
-def _need_new_joint(frame, joint):
-    if joint in frame:
-        raise RepeatedName(joint)
 
 
 def bare(frame):
@@ -55,7 +50,7 @@ def with_joint(frame, joint, x, y):
     need_ratio(y, "y")
     if len(frame.joints) >= Frame.MOST_JOINTS:
         raise OutOfBounds("frame")
-    _need_new_joint(frame, joint)
+    # What is left to check, the new frame checks itself; here and below.
     return Frame([*frame.joints, (joint, x, y)], frame.bars, grounds=frame.grounds)
 
 
@@ -69,10 +64,7 @@ def with_bar(frame, bar, one, other, *, role="rod"):
         raise WrongKind("role")
     if len(frame.bars) >= Frame.MOST_BARS:
         raise OutOfBounds("frame")
-    bars = [*frame.bars, (bar, one, other, role)]
-    need_new_bars(bars)
-    need_joints_there(frame, [one, other])
-    return Frame(frame.joints, bars, grounds=frame.grounds)
+    return Frame(frame.joints, [*frame.bars, (bar, one, other, role)], grounds=frame.grounds)
 
 
 def with_ground(frame, joint, across):

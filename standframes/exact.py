@@ -49,10 +49,12 @@ def sign_of(one):
 
 def sum_of(values):
     """The sum of a list of ratios."""
-    result = NOUGHT
-    for value in values:
-        result = plus(result, value)
-    return result
+    rest = list(values)
+    # Neighbours are added first, then their sums, and so on: so the numbers stay short for as long as they can.
+    while len(rest) > 1:
+        single = rest[-1:] if len(rest) & 1 else []
+        rest = [plus(one, other) for one, other in zip(rest[::2], rest[1::2])] + single
+    return rest[0] if rest else NOUGHT
 
 
 def products(one, other):

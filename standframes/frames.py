@@ -140,8 +140,11 @@ class Frame:
     def grounds(self):
         return list(self._grounds)
 
-    def _need_joint(self, joint, argument):
-        need_name(joint, argument)
+    def _need_joint(self, joint):
+        need_name(joint, "joint")
+        self._need_there(joint)
+
+    def _need_there(self, joint):
         if joint not in self._places:
             raise UnknownName(joint)
 
@@ -152,12 +155,12 @@ class Frame:
 
     def place(self, joint):
         """The point of the joint."""
-        self._need_joint(joint, "joint")
+        self._need_joint(joint)
         return self._places[joint]
 
     def across(self, joint):
         """The word "fixed", the direction of a sliding joint, or None."""
-        self._need_joint(joint, "joint")
+        self._need_joint(joint)
         for name, across in self._grounds:
             if name == joint:
                 return across
@@ -184,15 +187,15 @@ class Frame:
 
     def bars_at(self, joint):
         """The names of the bars with this end, in order."""
-        self._need_joint(joint, "joint")
+        self._need_joint(joint)
         return [name for name, one, other, _ in self._bars if joint in (one, other)]
 
     def bar_between(self, one, other):
         """The name of the bar with these two ends, in either order, or None."""
         need_name(one, "one")
         need_name(other, "other")
-        self._need_joint(one, "one")
-        self._need_joint(other, "other")
+        self._need_there(one)
+        self._need_there(other)
         pair = joined_pair(one, other)
         for name, first, second, _ in self._bars:
             if joined_pair(first, second) == pair:

@@ -83,6 +83,21 @@ def flat_frames(number, seed):
         yield Frame([row for row in places if row[0] in reached], [row for row in lines if row[1] in reached])
 
 
+def walks_of(follows):
+    """All walks, where follows tells which neighbour follows which one around a joint."""
+    runs = {(joint, follows[joint, x]) for joint, x in follows}
+    walks = []
+    while runs:
+        run = min(runs)
+        walk = []
+        while run in runs:
+            runs.discard(run)
+            walk.append(run[0])
+            run = (run[1], follows[run[1], run[0]])
+        walks.append(walk)
+    return walks
+
+
 class TestCrossing(unittest.TestCase):
     def test_two_bars(self):
         for places, due in [
@@ -311,6 +326,17 @@ class TestCover(unittest.TestCase):
             found[due] += 1
         self.assertEqual(found, [14, 2])
 
+    def test_right_number_but_other_faults(self):
+        # With a hole in it, a cover of the square has two walks too few; what is not allowed makes up for them.
+        square = crossed_square()
+        turns = [turns for turns in itertools.product((0, 1), repeat=4) if len(self.walks_of_turns(square, turns)) == 2]
+        for walks in [self.walks_of_turns(square, turn) for turn in turns]:
+            self.assertIs(is_cover(square, walks), False)
+            self.assertIs(is_cover(square, walks + [[], []]), False)
+            self.assertIs(is_cover(square, walks + [["a"], ["b"]]), False)
+            pieces = Frame(square.joints + joints(e=(7, 7), f=(8, 7)), square.bars + bars("ef"))
+            self.assertIs(is_cover(pieces, walks + [["e", "f"]]), False)
+
     def walks_of_turns(self, frame, turns):
         """Walks in which the neighbours of each joint follow each other forwards or backwards."""
         follows = {}
@@ -319,17 +345,7 @@ class TestCover(unittest.TestCase):
             near = near[::-1] if turn else near
             for x, y in zip(near, near[1:] + near[:1]):
                 follows[name, x] = y
-        runs = {(joint, follows[joint, x]) for joint, x in follows}
-        walks = []
-        while runs:
-            run = min(runs)
-            walk = []
-            while run in runs:
-                runs.discard(run)
-                walk.append(run[0])
-                run = (run[1], follows[run[1], run[0]])
-            walks.append(walk)
-        return walks
+        return walks_of(follows)
 
     def test_two_rings_at_one_joint(self):
         # Two triangles that touch at a: one walk too many, and two rings around a.
@@ -360,17 +376,7 @@ class TestCover(unittest.TestCase):
         names = list(near)
         for orders in itertools.product(*[itertools.permutations(near[name]) for name in names]):
             follows = {(name, x): y for name, order in zip(names, orders) for x, y in zip(near[name], order)}
-            runs = {(one, other) for one in names for other in near[one]}
-            walks = []
-            while runs:
-                run = min(runs)
-                walk = []
-                while run in runs:
-                    runs.discard(run)
-                    walk.append(run[0])
-                    run = (run[1], follows[run[1], run[0]])
-                walks.append(walk)
-            yield walks
+            yield walks_of(follows)
 
     def one_ring_each(self, frame, walks):
         follows = {}

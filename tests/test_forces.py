@@ -236,6 +236,8 @@ class TestIsCarry(unittest.TestCase):
             forces(a=(0, 0), b=(1, 4), c=(-3, 0)), forces(a=(0, 0), b=(0, 4)), [], turn[::-1], turn + turn[:1],
         ]:
             self.assertIs(is_carry(frame, load, ("motion", velocities)), False)
+        for word in ("Motion", "", "forces", None, True, ["motion"]):
+            self.assertIs(is_carry(frame, load, (word, turn)), False)
         self.assertIs(is_carry(frame, Load(forces(b=(5, 0))), ("motion", turn)), False)
         slide = Frame(joints(a=(0, 0)), [], grounds=[("a", point(1, 1))])
         self.assertIs(is_carry(slide, Load(forces(a=(1, 0))), ("motion", forces(a=(2, 2)))), True)

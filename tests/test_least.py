@@ -258,6 +258,9 @@ class TestJudges(unittest.TestCase):
                              (qs(1, 0), False), (qs(0, 1), False), (qs(0, 0), False), (qs(-2, 1), False)]:
             self.assertIs(is_least(rows, right, qs(0, 0), ("none", weights)), due)
             self.assertIs(is_signed_solve(rows, right, ("none", weights), signs=[1, 1]), due)
+        for word in ("None", "", "solution", "least", "endless", None, True, ["none"]):
+            self.assertIs(is_least(rows, right, qs(0, 0), (word, qs(-1, 1))), False)
+            self.assertIs(is_signed_solve(rows, right, (word, qs(-1, 1)), signs=[1, 1]), False)
         for way, weight, due in [(1, 1, False), (1, -1, True), (-1, 1, False), (-1, -1, False), (0, -1, False)]:
             answer = ("none", qs(weight))
             self.assertIs(is_signed_solve(grid([1]), qs(-1), answer, signs=[way]), due)
@@ -276,6 +279,8 @@ class TestJudges(unittest.TestCase):
             self.assertIs(is_least(rows, right, costs, ("endless", values, [q(1, 2), q(1, 2)])), True)
             for ray in (qs(-1, -1), qs(0, 0), qs(1, 0), qs(1, 1, 0), qs(1), qs(2, 1)):
                 self.assertIs(is_least(rows, right, costs, ("endless", values, ray)), False)
+        for word in ("Endless", "", "least", "none", None, True, ["endless"]):
+            self.assertIs(is_least(rows, right, costs, (word, qs(1, 0), qs(1, 1))), False)
         for values in (qs(0, -1), qs(1, 1), qs(1), qs(1, 0, 0)):
             self.assertIs(is_least(rows, right, costs, ("endless", values, qs(1, 1))), False)
         # A ray that costs nothing.

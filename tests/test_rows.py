@@ -178,6 +178,8 @@ class TestJudge(unittest.TestCase):
         # The last one adds the right sides up to zero.
         for weights in [qs(0, 0, 0), qs(1, 1, 0), qs(0, 1), qs(0, 1, 0, 0), [], qs(-2, -1, 1)]:
             self.assertIs(self.judge(qs(3, 1, 7), ("none", weights)), False)
+        for word in ("None", "", "weights", None, True, ["none"], ("none",)):
+            self.assertIs(self.judge(qs(3, 1, 7), (word, qs(0, 1, 0))), False)
         self.assertIs(self.judge(qs(3, 0, 6), ("none", qs(0, 1, 0))), False)
         self.assertIs(self.judge(qs(3, 0, 6), ("none", qs(-2, 0, 1))), False)
 
@@ -189,7 +191,7 @@ class TestJudge(unittest.TestCase):
             None, True, 3, "solution", (), ("solution",), ["solution", good], ("solution", good, []),
             ("solution", tuple(good)), ("Solution", good), ("none", good), (True, good), (None, good), (["solution"], good),
             ("solution", None), ("solution", (good,)), ("solution", [good]), {"solution": good}, (good, "solution"),
-            ("solution", q(3)), ("endless", good), (OutOfBounds("x"), good), WrongKind("x"), ("solution", {}),
+            ("solution", q(3)), ("endless", good), ("refused", qs(0, 0, 0)), (OutOfBounds("x"), good), WrongKind("x"), ("solution", {}),
         ]:
             self.assertIs(self.judge(right, answer), False)
         for value in NO_RATIOS:
