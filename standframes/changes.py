@@ -1,6 +1,8 @@
 """New frames and loads, made from given ones."""
 
-from standframes.checks import need_bar_there, need_frame, need_joints_there, need_names, need_point, need_velocities
+from standframes.checks import (
+    check_group, need_bar_there, need_frame, need_joints_there, need_names, need_point, need_velocities,
+)
 from standframes.errors import FlatMap, OutOfBounds, WrongKind
 from standframes.frames import Frame, is_across, is_role, need_each_once, need_name
 from standframes.loads import load_of, need_load
@@ -27,10 +29,7 @@ def part_on(frame, joints):
 
 def part(frame, joints):
     """The part of the frame on these joints."""
-    need_frame(frame)
-    need_names(joints, "joints")
-    need_each_once(joints)
-    need_joints_there(frame, joints)
+    check_group(frame, joints)
     return part_on(frame, joints)
 
 

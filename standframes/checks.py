@@ -1,7 +1,7 @@
 """Checks of arguments that belong to a frame."""
 
 from standframes.errors import UnknownName, WrongKind
-from standframes.frames import Frame, is_name
+from standframes.frames import Frame, is_name, need_each_once
 from standframes.points import ORIGIN, cross_product, dot_product, is_point
 from standframes.ratios import is_ratio
 
@@ -39,6 +39,14 @@ def need_joints_there(frame, names):
     for name in names:
         if name not in frame:
             raise UnknownName(name)
+
+
+def check_group(frame, joints):
+    """The checks of a function that is passed nothing but a frame and a list of its joints."""
+    need_frame(frame)
+    need_names(joints, "joints")
+    need_each_once(joints)
+    need_joints_there(frame, joints)
 
 
 def need_bar_there(frame, bar):

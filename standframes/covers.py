@@ -1,6 +1,7 @@
 """Walks along the bars of a frame, and what a cover tells of them. Places have no effect here."""
 
 from standframes.checks import joint_names
+from standframes.exact import NOUGHT, minus, plus
 
 
 def runs_of(frame):
@@ -78,3 +79,25 @@ def covers(frame, walks):
         if len(around(follows, joint, near[0])) != len(near):
             return False
     return True
+
+
+def bar_sides(frame, walks):
+    """For each bar, the indexes of its left and its right walk in a cover."""
+    left = left_walks(walks)
+    return [(left[(one, other)], left[(other, one)]) for _, one, other, _ in frame.bars]
+
+
+def side_values(sides, steps, count):
+    """A tuple of ratios for each walk of a cover: zeros for the first, and for each bar left minus right is its step.
+
+    The steps, one for each bar, are known to add up to zero around each joint. So it is the same along which bars
+    they are added up.
+    """
+    found = {0: tuple([NOUGHT for _ in steps[0]])}
+    while len(found) < count:
+        for (left, right), step in zip(sides, steps):
+            if right in found and left not in found:
+                found[left] = tuple([plus(x, y) for x, y in zip(found[right], step)])
+            elif left in found and right not in found:
+                found[right] = tuple([minus(x, y) for x, y in zip(found[left], step)])
+    return [found[at] for at in range(count)]

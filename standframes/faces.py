@@ -33,7 +33,7 @@ def is_flat(frame):
     return is_connected(frame) and len(frame.bars) > 0 and first_crossing(frame) is None
 
 
-def _need_flat(frame):
+def need_flat(frame):
     if not is_flat(frame):
         raise NotFlat()
 
@@ -83,7 +83,7 @@ def flat_faces(frame):
 
 def faces(frame):
     """The faces of a flat frame, each a walk with its region on the left."""
-    _need_flat(frame)
+    need_flat(frame)
     return flat_faces(frame)
 
 
@@ -121,11 +121,15 @@ def double_area(frame, walk):
     return walk_area(frame, walk)
 
 
+def outer_of(frame, walks):
+    """The index of the outer face among the faces of the frame."""
+    return [at for at, walk in enumerate(walks) if sign_of(walk_area(frame, walk)) <= 0][0]
+
+
 def outer_face(frame):
     """The index of the one face whose double area is not positive."""
-    _need_flat(frame)
-    outer = [at for at, walk in enumerate(flat_faces(frame)) if sign_of(walk_area(frame, walk)) <= 0]
-    return outer[0]
+    need_flat(frame)
+    return outer_of(frame, flat_faces(frame))
 
 
 def ring_of(frame, walks, joint):

@@ -1,6 +1,6 @@
 """Geometry of points that are known to be points."""
 
-from standframes.exact import minus, opposite, plus, sign_of, times
+from standframes.exact import minus, opposite, over, plus, sign_of, times
 from standframes.ratios import is_ratio
 
 ORIGIN = ((0, 1), (0, 1))
@@ -50,6 +50,12 @@ def left_turn(point):
 
 def squared_length(point):
     return dot_product(point, point)
+
+
+def factor_along(point, direction):
+    """The factor by which the direction is multiplied to give the point, which is in line with it."""
+    at = 0 if direction[0][0] != 0 else 1
+    return over(point[at], direction[at])
 
 
 def mapped_point(point, matrix):

@@ -1,9 +1,10 @@
 """Balance and motion of frames, for arguments that are known to fit."""
 
 from standframes.checks import is_velocities, joint_names, keeps_ground
+from standframes.elimination import pivot_columns
 from standframes.exact import NOUGHT, opposite
 from standframes.loads import load_of, power, pull_load
-from standframes.points import difference, dot_product, left_turn, stretched
+from standframes.points import difference, dot_product, left_turn, stretched, sum_point
 
 FIXED_TURNS = (((1, 1), (0, 1)), ((0, 1), (1, 1)))
 
@@ -83,14 +84,39 @@ def rate_of(frame, speeds, one, other):
     return dot_product(difference(frame.place(one), frame.place(other)), difference(speeds[one], speeds[other]))
 
 
-def is_motion_of(frame, value):
-    """True if the value is a motion of the frame."""
+def bar_rates(frame, velocities):
+    """The rate of each bar under the velocities, in order."""
+    speeds = {name: (x, y) for name, x, y in velocities}
+    return [rate_of(frame, speeds, one, other) for _, one, other, _ in frame.bars]
+
+
+def rigid_velocity(place, shift, turn):
+    """The velocity at the place of a body that is shifted, and turned about the zero point."""
+    return sum_point(shift, stretched(left_turn(place), turn))
+
+
+def motion_rows(frame):
+    """The equations of motions: the rates of the bars, each times -1, and the conditions of the grounds."""
+    return bar_columns(frame) + ground_columns(frame)
+
+
+def freedom_of(frame):
+    """The number of motions of which each motion is a sum of multiples in exactly one way."""
+    width = 2 * len(frame.joints)
+    return width - len(pivot_columns(motion_rows(frame), width))
+
+
+def is_grounded(frame, value):
+    """True if the value has the form of velocities for the frame and keeps every ground."""
     if not is_velocities(frame, value):
         return False
     speeds = {name: (x, y) for name, x, y in value}
-    if not all([keeps_ground(across, speeds[name]) for name, across in frame.grounds]):
-        return False
-    return all([rate_of(frame, speeds, one, other)[0] == 0 for _, one, other, _ in frame.bars])
+    return all([keeps_ground(across, speeds[name]) for name, across in frame.grounds])
+
+
+def is_motion_of(frame, value):
+    """True if the value is a motion of the frame."""
+    return is_grounded(frame, value) and all([speed[0] == 0 for speed in bar_rates(frame, value)])
 
 
 def drives_motion(frame, load, value):

@@ -3,6 +3,7 @@
 from fractions import Fraction
 
 from standframes.frames import Frame
+from standframes.loads import Load
 
 ZERO = (0, 1)
 HUGE = 10 ** 999 + 7
@@ -66,6 +67,11 @@ NO_RATIOS = [
 NO_NAMES = [
     None, True, 1, "", "A", "aB", "1a", "0", "a b", "a-b", "a_b", " a", "a ", "abcdefghi", "a\n", ["a"], ("a",), {},
     "_a", "aA", "~", "a{", "a`", "a/", "a:", "@", "[", "z9z9z9z9z",
+]
+NO_FRAMES = [None, 1, "frame", [], (), {}, Load([]), True]
+NO_LOADS = [None, 1, [], [("a", (1, 1), (1, 1))], triangle(), True, "load"]
+NO_NAME_LISTS = [
+    None, 1, "ab", ("a",), {"a": 1}, [["a"]], [("a",)], triangle(), ["a", None], *[[value] for value in NO_NAMES],
 ]
 NO_POINTS = [
     None, 1, "fixed", (1, 1), [q(1), q(2)], (q(1),), (q(1), q(2), q(3)), (q(1), (2, 2)), ((0, 2), q(1)), (q(1), True),

@@ -35,6 +35,15 @@ EXAMPLES = """
 [[('ab', (-1, 3)), ('bc', (-1, 3)), ('ca', (-1, 3)), ('ad', (1, 1)), ('bd', (1, 1)), ('cd', (1, 1))]]
 >>> faces(frame)
 [['a', 'b', 'd'], ['b', 'a', 'c'], ['b', 'c', 'd'], ['c', 'a', 'd']]
+>>> from standframes.pictures import picture
+>>> picture(frame, faces(frame), own_stresses(frame)[0])
+[((0, 1), (0, 1)), ((2, 1), (0, 1)), ((4, 1), (-2, 1)), ((2, 1), (2, 1))]
+>>> from standframes.counts import room
+>>> room(4)
+5
+>>> from standframes.words import split_row
+>>> split_row("cut ab", 4)
+[('cut', 1), ('ab', 5)]
 """
 
 

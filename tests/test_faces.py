@@ -2,51 +2,18 @@ import copy
 import itertools
 import random
 import unittest
-from fractions import Fraction
 
-from helpers import NO_NAMES, bars, check_error, check_fresh, crossed_square, fraction, joints, point, q, triangle, wheel
+from helpers import (
+    NO_FRAMES, NO_NAMES, bars, check_error, check_fresh, crossed_square, fraction, joints, point, q, triangle, wheel,
+)
+from reference import first_meeting, flat_frames
 from standframes.errors import NotCover, NotFlat, UnknownName, WrongKind
 from standframes.faces import crossing, double_area, faces, is_cover, is_flat, outer_face, ring
 from standframes.frames import Frame
 from standframes.loads import Load
 
-NO_FRAMES = [None, 1, "frame", [], (), {}, Load([]), True]
-
-
 def two_bars(*places):
     return Frame(joints(**dict(zip("abcd", places))), bars("ab", "cd"))
-
-
-def common_points(one, other, first, second):
-    """The common points of two segments, in fractions: none, one point, or "many"."""
-    (ax, ay), (bx, by), (cx, cy), (dx, dy) = one, other, first, second
-    ux, uy, vx, vy = bx - ax, by - ay, dx - cx, dy - cy
-    turn = ux * vy - uy * vx
-    if turn != 0:
-        s = Fraction((cx - ax) * vy - (cy - ay) * vx, 1) / turn
-        t = Fraction((cx - ax) * uy - (cy - ay) * ux, 1) / turn
-        return (ax + s * ux, ay + s * uy) if 0 <= s <= 1 and 0 <= t <= 1 else None
-    if (cx - ax) * uy != (cy - ay) * ux:
-        return None
-    # On one line: where the second segment begins and ends along the first one.
-    marks = sorted(((x - ax) * ux + (y - ay) * uy) / Fraction(ux * ux + uy * uy) for x, y in (first, second))
-    low, high = max(marks[0], 0), min(marks[1], 1)
-    if low > high:
-        return None
-    return (ax + low * ux, ay + low * uy) if low == high else "many"
-
-
-def first_meeting(frame):
-    """By the words of point 33."""
-    places = {name: (fraction(x), fraction(y)) for name, x, y in frame.joints}
-    for at, (name, one, other, _) in enumerate(frame.bars):
-        for later, first, second, _ in frame.bars[at + 1:]:
-            common = common_points(places[one], places[other], places[first], places[second])
-            shared = {one, other} & {first, second}
-            allowed = places[shared.pop()] if shared else None
-            if common is not None and common != allowed:
-                return (name, later)
-    return None
 
 
 def some_frames(number, seed):
@@ -59,28 +26,6 @@ def some_frames(number, seed):
         pairs = [(one, other) for one, other in itertools.combinations(names, 2) if spot[one] != spot[other]]
         chosen = source.sample(pairs, source.randint(0, min(len(pairs), 2 * count)))
         yield Frame(places, [(f"b{k}", *source.sample(pair, 2), "rod") for k, pair in enumerate(chosen)])
-
-
-def flat_frames(number, seed):
-    """Flat frames, each grown bar by bar."""
-    source = random.Random(seed)
-    for _ in range(number):
-        count = source.randint(2, 8)
-        names = source.sample("abcdefgh", count)
-        spots = source.sample(list(itertools.product(range(-3, 4), repeat=2)), count)
-        places = [(name, q(x), q(y)) for name, (x, y) in zip(names, spots)]
-        pairs = list(itertools.combinations(names, 2))
-        source.shuffle(pairs)
-        lines = []
-        for k, pair in enumerate(pairs):
-            more = lines + [(f"b{k}", *source.sample(pair, 2), source.choice(["rod", "tie", "prop"]))]
-            if first_meeting(Frame(places, more)) is None and source.random() < 0.9:
-                lines = more
-        # Only the joints that the first bar reaches, so that the frame is connected.
-        reached = set(lines[0][1:3])
-        for _ in names:
-            reached |= {end for row in lines if reached & set(row[1:3]) for end in row[1:3]}
-        yield Frame([row for row in places if row[0] in reached], [row for row in lines if row[1] in reached])
 
 
 def walks_of(follows):

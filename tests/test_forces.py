@@ -1,115 +1,16 @@
 import copy
-import random
 import unittest
 from fractions import Fraction
 
 from helpers import (
-    NO_RATIOS, bars, check_error, check_fresh, crossed_square, forces, fraction, joints, point, q, triangle, wheel,
+    NO_FRAMES, NO_RATIOS, bars, check_error, check_fresh, crossed_square, forces, fraction, joints, point, q, triangle,
+    wheel,
 )
+from reference import carried, check_forces, check_motion, free_unknowns, some_frames, unknowns
 from standframes.errors import UnknownName, WrongKind
 from standframes.forces import carry, is_carry, is_own_stress, own_stresses
 from standframes.frames import Frame
-from standframes.loads import Load, power
-
-NO_FRAMES = [None, 1, "frame", [], (), {}, Load([]), True]
-
-
-def columns(frame):
-    """A column of forces on all joints for each unknown of point 18, in fractions."""
-    names = [row[0] for row in frame.joints]
-    places = {name: (fraction(x), fraction(y)) for name, x, y in frame.joints}
-    units = []
-    for _, one, other, _ in frame.bars:
-        x, y = (places[other][k] - places[one][k] for k in (0, 1))
-        units.append({one: (x, y), other: (-x, -y)})
-    for joint, across in frame.grounds:
-        if across == "fixed":
-            units.extend([{joint: (1, 0)}, {joint: (0, 1)}])
-        else:
-            units.append({joint: (-fraction(across[1]), fraction(across[0]))})
-    return [[unit.get(name, (0, 0))[k] for name in names for k in (0, 1)] for unit in units]
-
-
-def independent(found, column):
-    """Adds the column to the list of (place, column) unless it is a sum of multiples of them."""
-    rest = [Fraction(item) for item in column]
-    for at, base in found:
-        rest = [x - y * rest[at] / base[at] for x, y in zip(rest, base)]
-    at = next((k for k, item in enumerate(rest) if item != 0), None)
-    if at is None:
-        return False
-    found.append((at, rest))
-    return True
-
-
-def free_unknowns(frame):
-    found = []
-    return [k for k, column in enumerate(columns(frame)) if not independent(found, column)]
-
-
-def load_column(frame, load):
-    return [fraction(item) for name, _, _ in frame.joints for item in load.force(name)]
-
-
-def carried(frame, load):
-    found = []
-    for column in columns(frame):
-        independent(found, column)
-    return not independent(found, load_column(frame, load))
-
-
-def unknowns(frame, pulls, reactions):
-    """The unknowns of point 18 behind forces."""
-    values = [fraction(pull) for _, pull in pulls]
-    for (_, x, y), (_, across) in zip(reactions, frame.grounds):
-        if across == "fixed":
-            values.extend([fraction(x), fraction(y)])
-        else:
-            turn = (-fraction(across[1]), fraction(across[0]))
-            values.append(fraction(x) / turn[0] if turn[0] else fraction(y) / turn[1])
-    return values
-
-
-def check_forces(test, frame, load, pulls, reactions):
-    test.assertEqual([row[0] for row in pulls], [row[0] for row in frame.bars])
-    test.assertEqual([row[0] for row in reactions], [row[0] for row in frame.grounds])
-    for (_, x, y), (_, across) in zip(reactions, frame.grounds):
-        if across != "fixed":
-            test.assertEqual(fraction(x) * fraction(across[0]) + fraction(y) * fraction(across[1]), 0)
-    sums = load_column(frame, load)
-    for value, column in zip(unknowns(frame, pulls, reactions), columns(frame)):
-        sums = [x + value * y for x, y in zip(sums, column)]
-    test.assertFalse(any(sums))
-
-
-def check_motion(test, frame, load, velocities):
-    test.assertEqual([row[0] for row in velocities], [row[0] for row in frame.joints])
-    speeds = [fraction(item) for row in velocities for item in row[1:]]
-    for column in columns(frame):
-        test.assertEqual(sum(x * y for x, y in zip(column, speeds)), 0)
-    test.assertEqual(sum(x * y for x, y in zip(load_column(frame, load), speeds)), 1)
-    test.assertEqual(power(load, velocities), (1, 1))
-
-
-def some_frames(number, seed):
-    source = random.Random(seed)
-    for _ in range(number):
-        count = source.randint(0, 6)
-        names = source.sample("abcdefgh", count)
-        places = [(name, q(source.randint(0, 2), source.randint(1, 2)), q(source.randint(0, 2))) for name in names]
-        spot = {row[0]: row[1:] for row in places}
-        pairs = [(one, other) for one in names for other in names if one != other and spot[one] != spot[other]]
-        lines, seen = [], set()
-        for one, other in source.sample(pairs, source.randint(0, len(pairs))):
-            if frozenset((one, other)) not in seen and len(lines) < 2 * count:
-                seen.add(frozenset((one, other)))
-                lines.append((f"b{len(lines)}", one, other, source.choice(["rod", "tie", "prop"])))
-        held = []
-        for name in source.sample(names, source.randint(0, count)):
-            slide = point(source.randint(-2, 2), source.choice([-3, 1, 2]))
-            held.append((name, source.choice(["fixed", slide, point(1, 0)])))
-        given = forces(**{name: (source.randint(-2, 2), source.randint(-2, 2)) for name in names})
-        yield Frame(places, lines, grounds=held), Load(given[:source.randint(0, count)])
+from standframes.loads import Load
 
 
 class TestCarry(unittest.TestCase):

@@ -76,6 +76,46 @@ INTERFACE = {
         "carry": "(frame, load)", "is_carry": "(frame, load, answer)", "own_stresses": "(frame)",
         "is_own_stress": "(frame, value)",
     },
+    "sections": {
+        "cut_bars": "(frame, joints)", "balance": "(frame, load, joints, *, pulls, reactions)",
+        "section": "(frame, load, joints)",
+    },
+    "motions": {
+        "motions": "(frame)", "freedom": "(frame)", "stands": "(frame)", "is_motion": "(frame, value)",
+        "rate": "(frame, velocities, one, other)", "loose_joints": "(frame)",
+        "rigid": "(frame, *, shift=((0, 1), (0, 1)), turn=(0, 1))", "is_rigid": "(frame, value)", "stiff": "(frame)",
+        "lock": "(frame, one, other)",
+    },
+    "counts": {
+        "room": "(size)", "inner_bars": "(frame, joints)", "kept_bars": "(frame)", "counted_freedom": "(frame)",
+        "sparse": "(frame)", "tight": "(frame)", "crowd": "(frame, bar)", "is_crowded": "(frame, value)",
+        "stiff_parts": "(frame)", "missing_pairs": "(frame)",
+    },
+    "steps": {
+        "take_down": "(frame)", "is_building": "(frame, value)", "built_pairs": "(steps)",
+        "crowd_stress": "(frame, bar)", "spread": "(frame)", "is_spread": "(frame, answer)",
+    },
+    "oneway": {
+        "hold": "(frame, load)", "is_hold": "(frame, load, answer)", "slack": "(frame, load, bar)",
+        "is_slack": "(frame, load, bar, answer)", "slack_bars": "(frame, load)", "steady": "(frame)",
+        "is_steady": "(frame, answer)",
+    },
+    "strength": {
+        "collapse": "(frame, load, limits)", "is_collapse": "(frame, load, limits, answer)",
+        "dissipation": "(frame, limits, velocities)", "role_limits": "(frame)", "sag": "(frame, load, springs)",
+        "is_sag": "(frame, load, springs, answer)", "energy": "(frame, springs, pulls)",
+    },
+    "pictures": {
+        "picture": "(frame, walks, pulls)", "is_picture": "(frame, walks, value)",
+        "picture_pulls": "(frame, walks, points)", "force_polygon": "(frame, walks, points, joint)",
+        "reciprocal": "(frame, walks, pulls)",
+    },
+    "lifts": {
+        "lift": "(frame, walks, pulls)", "is_lift": "(frame, walks, value)", "lift_pulls": "(frame, walks, planes)",
+        "heights": "(frame, walks, planes)", "plane_height": "(plane, point)", "bowl": "(frame, planes)",
+        "convex_outside": "(frame)",
+    },
+    "words": {"write_ratio": "(one)", "read_ratio": "(word)", "split_row": "(row, line)"},
     "faces": {
         "crossing": "(frame)", "is_flat": "(frame)", "faces": "(frame)", "is_cover": "(frame, value)",
         "double_area": "(frame, walk)", "outer_face": "(frame)", "ring": "(frame, walks, joint)",
@@ -254,6 +294,23 @@ class TestCode(unittest.TestCase):
                 if isinstance(node, ast.Attribute) and isinstance(node.ctx, ast.Load):
                     self.assertIn(node.attr, methods | stored, f"{path} {node.lineno}")
         self.assertFalse(stored & METHODS)
+
+    def test_no_property_is_assigned(self):
+        properties, stored = set(), set()
+        for _, tree in trees():
+            for node in ast.walk(tree):
+                if isinstance(node, ast.FunctionDef) and node.decorator_list:
+                    properties.add(node.name)
+                if isinstance(node, ast.Attribute) and isinstance(node.ctx, ast.Store):
+                    stored.add(node.attr)
+        self.assertFalse(stored & properties)
+
+    def test_stars_stand_before_names(self):
+        for path, tree in trees():
+            for node in ast.walk(tree):
+                if isinstance(node, ast.Starred):
+                    self.assertIsInstance(node.value, (ast.Name, ast.Attribute), f"{path} {node.lineno}")
+                self.assertNotIsInstance(getattr(node, "op", None), (ast.Pow, ast.LShift), path)
 
     def test_no_sorting_in_place_and_no_iterating_over_sets(self):
         for path in FILES:
