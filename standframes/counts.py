@@ -65,8 +65,9 @@ def crowd(frame, bar):
 def is_crowded(frame, value):
     """True if the value is a list of at least two joints, none twice, with more inner bars than their room."""
     need_frame(frame)
-    if not is_names(value) or len(value) < 2:
+    if not is_names(value):
         return False
+    # Fewer than two joints have no inner bars and no room.
     names = joint_names(frame)
     if any([name not in names or value.count(name) > 1 for name in value]):
         return False

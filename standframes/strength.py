@@ -121,7 +121,8 @@ def _greatest_factor(frame, load, bounds):
         ends = (at, factor + 1 + k)
         rows.append([UNIT if column in ends else NOUGHT for column in range(width)])
         right.append(size)
-    ways = [way for _, way in starts] + [0 for _ in range(len(bounds), factor)] + [1] + [1 for _ in boxed]
+    # A negative factor is allowed here: it is never the greatest, and so the power of the prices is exactly 1.
+    ways = [way for _, way in starts] + [0 for _ in range(len(bounds), factor + 1)] + [1 for _ in boxed]
     costs = [(-1 if column == factor else 0, 1) for column in range(width)]
     return least_values(rows, right, costs, ways)
 
@@ -134,27 +135,17 @@ def _endless_forces(frame, ray):
     return ("endless", pulls_of(frame, values[:count]), reactions_of(frame, values[count:]))
 
 
-def _falling_velocities(frame, load, prices):
-    """Velocities under which the power is 1: the opposite prices of the joints, which may have a greater power.
-
-    They have one only if the factor is zero, and then the dissipation stays zero.
-    """
-    moves = velocities_of(frame, [opposite(price) for price in prices])
-    given = power(load, moves)
-    return [(name, over(x, given), over(y, given)) for name, x, y in moves]
-
-
 def collapse(frame, load, limits):
     """("falls", factor, pulls, reactions, velocities) or ("endless", pulls, reactions)."""
     _check_limited(frame, load, limits)
     bounds = _bounds(frame, limits)
-    # The factor zero is always carried. So there is no refusal.
+    # The factor zero is always carried, so there is no refusal.
     word, values, more = _greatest_factor(frame, load, bounds)
     if word == "endless":
         return _endless_forces(frame, more)
     held = [plus(_start_and_way(bound)[0], value) for bound, value in zip(bounds, values)]
     reactions = reactions_of(frame, values[len(bounds):])
-    moves = _falling_velocities(frame, load, more)
+    moves = velocities_of(frame, [opposite(price) for price in more])
     return ("falls", values[_factor_at(frame)], pulls_of(frame, held), reactions, moves)
 
 

@@ -3,7 +3,8 @@ import random
 import unittest
 
 from helpers import (
-    HUGE, NO_FRAMES, NO_NAME_LISTS, NO_NAMES, bars, check_error, check_fresh, crossed_square, joints, point, q, triangle,
+    HUGE, NO_FRAMES, NO_NAME_LISTS, NO_NAMES, bars, check_error, check_fresh, crossed_square, joints, point, q,
+    triangle,
     wheel,
 )
 from reference import some_frames
@@ -212,6 +213,12 @@ class TestCrowd(unittest.TestCase):
             ["a", "b", "c", frame],
         ]:
             self.assertIs(is_crowded(frame, value), False)
+        names = "abcde"
+        full = Frame([(name, q(k), q(k)) for k, name in enumerate(names)],
+                     [(one + other, one, other, "rod") for one, other in itertools.combinations(names, 2)])
+        self.assertIs(is_crowded(full, list("abcde")), True)
+        for value in (list("abcdee"), list("aabcde"), list("abcdex"), ["x", *"abcde"], ["ab", *"abcde"]):
+            self.assertIs(is_crowded(full, value), False)
         for frame in frames(40, 64):
             pairs = [row[1:3] for row in frame.bars]
             for group in groups(names_of(frame), least=0):

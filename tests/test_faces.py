@@ -245,7 +245,8 @@ class TestCover(unittest.TestCase):
         pair = Frame(joints(a=(0, 0), b=(1, 0)), bars("ab"))
         self.assertIs(is_cover(pair, [["a", "b"]]), True)
         self.assertIs(is_cover(pair, [["b", "a"]]), True)
-        for walks in [[], [[]], [["a"]], [["a", "b"], []], [["a", "b"], ["a", "b"]], [["a", "b", "a", "b"]], [["a"], ["b"]],
+        for walks in [[], [[]], [["a"]], [["a", "b"], []], [["a", "b"], ["a", "b"]], [["a", "b", "a", "b"]],
+                      [["a"], ["b"]],
                       [["a", "a"]], [["a", "b", "b"]], [["a", "c"]]]:
             self.assertIs(is_cover(pair, walks), False)
         path = Frame(joints(a=(0, 0), b=(1, 0), c=(2, 1)), bars("ab", "bc"))

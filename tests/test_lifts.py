@@ -1,6 +1,7 @@
 import copy
 import random
 import unittest
+from fractions import Fraction
 
 from helpers import (
     NO_FRAMES, NO_POINTS, NO_RATIOS, bars, check_error, check_fresh, crossed_square, fraction, joints, point, q, qs,
@@ -92,7 +93,8 @@ class TestLift(unittest.TestCase):
             self.assertIs(is_lift(frame, walks, other), True)
             self.assertEqual(lift_pulls(frame, walks, other), stress)
             due = slow_heights(frame, walks, other)
-            self.assertEqual([fraction(level) for _, level in heights(frame, walks, other)], list(due[row[0]] for row in frame.joints))
+            self.assertEqual(
+                heights(frame, walks, other), [(row[0], q(due[row[0]])) for row in frame.joints])
             if len(walks) > 1:
                 wrong = [*found[:-1], plane(*[fraction(item) + 1 for item in found[-1]])]
                 self.assertIs(is_lift(frame, walks, wrong), slow_heights(frame, walks, wrong) is not None)
@@ -168,7 +170,8 @@ class TestLift(unittest.TestCase):
             check_error(self, NotCover, {"subject": None}, lift, frame, cover, wrong)
             check_error(self, NotCover, {"subject": None}, is_lift, frame, cover, None)
             for call in (lift_pulls, heights):
-                check_error(self, NotCover, {"subject": None}, call, frame, cover, [plane(k, 0, k) for k, _ in enumerate(cover)])
+                planes = [plane(k, 0, k) for k, _ in enumerate(cover)]
+                check_error(self, NotCover, {"subject": None}, call, frame, cover, planes)
         check_error(self, NotOwnStress, {"subject": None}, lift, frame, walks, wrong)
 
     def test_plane_height(self):
@@ -204,7 +207,10 @@ class TestBowl(unittest.TestCase):
         frame = wheel()
         walks = faces(frame)
         stress = own_stresses(frame)[0]
-        for factor, due in ((1, True), (-1, False), (3, True), (0, True)):
+        for factor, due in (
+            (1, True), (-1, False), (3, True), (0, True), (-Fraction(1, 4), False), (-Fraction(1, 12), False),
+            (-Fraction(1, 36), False),
+        ):
             pulls = [(name, q(factor * fraction(pull))) for name, pull in stress]
             planes = lift(frame, walks, pulls)
             self.assertIs(bowl(frame, planes), due)
@@ -219,7 +225,8 @@ class TestBowl(unittest.TestCase):
         # Two triangles with a common bar, and a folded plane that only joints of the other one are above or below.
         frame = Frame(joints(a=(0, 0), b=(4, 0), c=(0, 4), d=(9, 9)), bars("ab", "bc", "ca", "bd", "cd"))
         walks = faces(frame)
-        self.assertEqual([sorted(walk) for walk in walks if double_area(frame, walk)[0] > 0], [list("abc"), list("bcd")])
+        inner = [sorted(walk) for walk in walks if double_area(frame, walk)[0] > 0]
+        self.assertEqual(inner, [list("abc"), list("bcd")])
         self.assertIs(bowl(frame, [plane(1, 1, 0)] * 3), True)
 
     def test_many(self):
@@ -278,7 +285,8 @@ class TestBowl(unittest.TestCase):
             self.assertIs(slow_convex(frame), due)
 
     def test_errors(self):
-        for frame in (crossed_square(), Frame([], []), Frame(joints(a=(0, 0)), []), Frame(joints(a=(0, 0), b=(1, 0), c=(2, 2)), bars("ab"))):
+        apart = Frame(joints(a=(0, 0), b=(1, 0), c=(2, 2)), bars("ab"))
+        for frame in (crossed_square(), Frame([], []), Frame(joints(a=(0, 0)), []), apart):
             check_error(self, NotFlat, {"subject": None}, convex_outside, frame)
             check_error(self, NotFlat, {"subject": None}, bowl, frame, [plane(1, 2, 3)] * 4)
             check_error(self, NotFlat, {"subject": None}, bowl, frame, [])

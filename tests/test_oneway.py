@@ -29,8 +29,14 @@ def hanger(role):
 def guyed(**roles):
     """A mast on a fixed foot, between two stays."""
     told = {"am": "tie", "bm": "tie", "fm": "prop", **roles}
-    return Frame(joints(a=(-3, 0), b=(3, 0), f=(0, 0), m=(0, 4)), [(*row[:3], told[row[0]]) for row in bars("am", "bm", "fm")],
+    lines = [(*row[:3], told[row[0]]) for row in bars("am", "bm", "fm")]
+    return Frame(joints(a=(-3, 0), b=(3, 0), f=(0, 0), m=(0, 4)), lines,
                  grounds=[("a", "fixed"), ("b", "fixed"), ("f", "fixed")])
+
+
+def stays():
+    """The mast without its prop."""
+    return Frame(guyed().joints, guyed().bars[:2], grounds=guyed().grounds)
 
 
 def role_frames(number, seed):
@@ -122,10 +128,14 @@ class TestIsHold(unittest.TestCase):
                           (0, 1, False), (-4, -3, True), (-5, -3, False), (1, 0, False)]:
             moves = forces(a=(0, 0), b=(0, 0), f=(0, 0), m=(x, y))
             self.assertIs(is_hold(frame, load, ("motion", moves)), due, (x, y))
+            for word in ("Motion", "slack", "forces", "", None, True):
+                self.assertIs(is_hold(frame, load, (word, moves)), False)
             wrong = forces(a=(0, 0), b=(0, 0), f=(0, -1), m=(x, y))
             self.assertIs(is_hold(frame, load, ("motion", wrong)), False)
         # A rod must keep its length, a prop must not get shorter.
-        for role, x, y, due in [("rod", 1, 0, False), ("prop", 0, -1, False), ("tie", 0, -1, True)]:
+        for role, x, y, due in [
+            ("rod", 0, -1, False), ("rod", 1, 0, False), ("prop", 0, -1, False), ("tie", 0, -1, True),
+        ]:
             frame = guyed(fm=role)
             load = Load(forces(m=(x, y)))
             moves = forces(a=(0, 0), b=(0, 0), f=(0, 0), m=(x, y))
@@ -137,7 +147,8 @@ class TestIsHold(unittest.TestCase):
         self.assertIs(is_hold(frame, load, good), True)
         zeros = forces(a=(0, 0), b=(0, 0), f=(0, 0), m=(0, 0))
         for answer in [
-            None, True, 7, "forces", (), (word,), (word, pulls), list(good), (*good, []), ("motion", zeros), frame, load,
+            None, True, 7, "forces", (), (word,), (word, pulls), list(good), (*good, []), ("motion", zeros), frame,
+            load,
             (word, tuple(pulls), reactions), (word, pulls, tuple(reactions)), (word, pulls[::-1], reactions),
             (word, pulls, reactions[::-1]), (word, pulls[:2], reactions), (word, pulls, reactions[:2]), [good],
             ("motion", pulls, reactions), ("motion", zeros, []), (True, pulls, reactions), ("Forces", pulls, reactions),
@@ -171,7 +182,7 @@ class TestSlack(unittest.TestCase):
             self.assertNotEqual(dict(answer[1])[bar], q(0))
         self.assertEqual(slack_bars(frame, load), [])
         # Without the prop, only what the stays hold; then nothing pushes, and no stay may work under the zero load.
-        frame = Frame(frame.joints, frame.bars[:2], grounds=frame.grounds)
+        frame = stays()
         self.assertEqual(slack_bars(frame, Load([])), ["am", "bm"])
         self.assertEqual(slack_bars(frame, Load(forces(m=(3, 4)))), ["bm"])
         self.assertEqual(slack_bars(frame, Load(forces(m=(-3, 4)))), ["am"])
@@ -223,7 +234,8 @@ class TestSlack(unittest.TestCase):
         zeros = forces(a=(0, 0), b=(0, 0), f=(0, 0), m=(0, 0))
         wrong = ("works", [("am", q(0)), ("bm", q(-1)), ("fm", q(0))], forces(a=(0, 0), b=(-3, 4), f=(0, 0)))
         for answer in [
-            None, True, "works", (), list(good), (word, pulls), (*good, 1), ("slack", zeros), ("slack", pulls, reactions),
+            None, True, "works", (), list(good), (word, pulls), (*good, 1), ("slack", zeros),
+            ("slack", pulls, reactions),
             ("works", zeros), ("forces", pulls, reactions), ("Works", pulls, reactions), (word, pulls[::-1], reactions),
             (word, pulls, reactions[:1]), wrong, ("slack", None), (word, None, None), frame, ("motion", zeros),
             (word, tuple(pulls), reactions), (None, zeros), {},
@@ -233,8 +245,7 @@ class TestSlack(unittest.TestCase):
             self.assertIs(is_slack(frame, load, "bm", (word, [*pulls[:2], ("fm", value)], reactions)), False)
 
     def test_is_slack_motions(self):
-        frame = Frame(guyed().joints, guyed().bars[:2], grounds=guyed().grounds)
-        load = Load(forces(m=(3, 4)))
+        frame, load = stays(), Load(forces(m=(3, 4)))
         for x, y, bar, due in [
             (4, -3, "bm", True), (-4, 3, "bm", False), (8, -6, "bm", True), (4, -3, "am", False), (0, 0, "bm", False),
             (-3, -4, "bm", False), (0, -1, "bm", False), (4, -2, "bm", False), (4, -4, "bm", False),
@@ -246,7 +257,8 @@ class TestSlack(unittest.TestCase):
         for x, y, due in [(0, -1, True), (0, 1, False), (4, -3, True)]:
             moves = forces(a=(0, 0), b=(0, 0), f=(0, 0), m=(x, y))
             self.assertIs(is_slack(frame, Load([]), "bm", ("slack", moves)), due)
-            self.assertIs(is_slack(frame, Load([]), "bm", ("slack", forces(a=(0, 0), b=(0, 0), f=(1, 0), m=(x, y)))), False)
+            moves = forces(a=(0, 0), b=(0, 0), f=(1, 0), m=(x, y))
+            self.assertIs(is_slack(frame, Load([]), "bm", ("slack", moves)), False)
 
     def test_errors(self):
         frame, load = guyed(am="rod"), Load(forces(m=(3, -4)))
@@ -328,7 +340,8 @@ class TestSteady(unittest.TestCase):
                   [(name, q(-fraction(x)), q(-fraction(y))) for name, x, y in reactions])
         for answer in [
             None, True, 3, "steady", (), list(good), (word, pulls), (*good, []), ("motion", zeros), none, turned,
-            ("forces", pulls, reactions), ("Steady", pulls, reactions), (word, pulls[::-1], reactions), (word, None, None),
+            ("forces", pulls, reactions), ("Steady", pulls, reactions), (word, pulls[::-1], reactions),
+            (word, None, None),
             (word, pulls, reactions[::-1]), (word, tuple(pulls), reactions), (word, pulls, tuple(reactions)), frame,
             (word, pulls, none[2]), ("motion", forces(a=(0, 0), b=(0, 0), f=(0, 0), m=(0, 1))), ("motion", None), {},
             ("motion", forces(a=(1, 0), b=(1, 0), f=(1, 0), m=(1, 0))), ("steady", zeros), ("motion", pulls, reactions),
@@ -352,6 +365,8 @@ class TestSteady(unittest.TestCase):
         for x, y, due in [(0, -1, True), (3, -4, True), (1, 0, False), (0, 0, False)]:
             moves = forces(a=(0, 0), b=(0, 0), f=(0, 0), m=(x, y))
             self.assertIs(is_steady(slack_mast, ("motion", moves)), due)
+            for word in ("Motion", "slack", "steady", "", None, True):
+                self.assertIs(is_steady(slack_mast, (word, moves)), False)
 
     def test_errors(self):
         for value in NO_FRAMES:
@@ -365,8 +380,8 @@ class TestCopies(unittest.TestCase):
         check_fresh(self, lambda: hold(guyed(), load))
         check_fresh(self, lambda: hold(guyed(fm="tie"), load))
         check_fresh(self, lambda: slack(guyed(), load, "am"))
-        check_fresh(self, lambda: slack(Frame(guyed().joints, guyed().bars[:2], grounds=guyed().grounds), Load([]), "am"))
-        check_fresh(self, lambda: slack_bars(Frame(guyed().joints, guyed().bars[:2], grounds=guyed().grounds), Load([])))
+        check_fresh(self, lambda: slack(stays(), Load([]), "am"))
+        check_fresh(self, lambda: slack_bars(stays(), Load([])))
         check_fresh(self, lambda: steady(guyed()))
         check_fresh(self, lambda: steady(guyed(fm="tie")))
         check_fresh(self, lambda: steady(triangle()))

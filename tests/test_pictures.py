@@ -160,7 +160,8 @@ class TestPicture(unittest.TestCase):
         self.assertIs(is_picture(frame, walks, [point(3, 3)] * 4), True)
         for value in [
             None, True, 4, "points", tuple(good), good[:3], good + good[:1], [], good[::-1], [good], {}, frame,
-            [point(0, 0), point(2, 0), point(4, -2), point(2, 1)], [point(1, 0)] + good[1:], [list(spot) for spot in good],
+            [point(0, 0), point(2, 0), point(4, -2), point(2, 1)], [point(1, 0)] + good[1:],
+            [list(spot) for spot in good],
             Load([]), [numbers(spot) for spot in good],
         ]:
             self.assertIs(is_picture(frame, walks, value), False)
@@ -178,8 +179,9 @@ class TestPicture(unittest.TestCase):
             ([*good[:3], point(1, 1)], "ca"), ([*good[:3], point(9, 2)], "cd"), ([*good[:3], point(2, 3)], "ad"),
         ]:
             for call in (picture_pulls, lambda *args: force_polygon(*args, "a")):
+                rows = zip(frame.bars, spans(frame), sides(frame, walks))
                 found = [
-                    name for (name, _, _, _), (x, y), (left, right) in zip(frame.bars, spans(frame), sides(frame, walks))
+                    name for (name, _, _, _), (x, y), (left, right) in rows
                     if x * (numbers(wrong[left])[1] - numbers(wrong[right])[1])
                     != y * (numbers(wrong[left])[0] - numbers(wrong[right])[0])]
                 check_error(self, NotPicture, {"subject": found[0]}, call, frame, walks, wrong)
@@ -292,7 +294,8 @@ class TestReciprocal(unittest.TestCase):
         zeros = [(row[0], q(0)) for row in frame.bars]
         check_error(self, NoReciprocal, {"subject": "ab"}, reciprocal, frame, walks, zeros)
         check_error(self, OutOfBounds, {"argument": "walks"}, reciprocal, frame, [[]] * 13, zeros)
-        check_error(self, OutOfBounds, {"argument": "walks"}, reciprocal, frame, walks * 4, [(row[0], q(1)) for row in frame.bars])
+        ones = [(row[0], q(1)) for row in frame.bars]
+        check_error(self, OutOfBounds, {"argument": "walks"}, reciprocal, frame, walks * 4, ones)
         check_error(self, NotCover, {"subject": None}, reciprocal, frame, walks * 3, zeros)
         # A joint in the middle of a bar: both halves lie between the same two faces.
         split = Frame(joints(a=(0, 0), b=(6, 0), c=(0, 6), d=(2, 2), e=(3, 0)),

@@ -189,9 +189,11 @@ class TestJudge(unittest.TestCase):
         self.assertIs(self.judge(right, ("solution", good)), True)
         for answer in [
             None, True, 3, "solution", (), ("solution",), ["solution", good], ("solution", good, []),
-            ("solution", tuple(good)), ("Solution", good), ("none", good), (True, good), (None, good), (["solution"], good),
+            ("solution", tuple(good)), ("Solution", good), ("none", good), (True, good), (None, good),
+            (["solution"], good),
             ("solution", None), ("solution", (good,)), ("solution", [good]), {"solution": good}, (good, "solution"),
-            ("solution", q(3)), ("endless", good), ("refused", qs(0, 0, 0)), (OutOfBounds("x"), good), WrongKind("x"), ("solution", {}),
+            ("solution", q(3)), ("endless", good), ("refused", qs(0, 0, 0)), (OutOfBounds("x"), good), WrongKind("x"),
+            ("solution", {}),
         ]:
             self.assertIs(self.judge(right, answer), False)
         for value in NO_RATIOS:

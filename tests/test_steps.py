@@ -19,7 +19,8 @@ from test_counts import frames, inside, two_triangles
 
 TRIANGLE = [("start", "a", "b"), ("add", "c", "b", "a")]
 NO_STEPS = [
-    None, True, 5, "start", ["start", "a", "b"], (), ("start",), ("start", "a"), ("start", "a", "b", "c"), ("add", "a", "b"),
+    None, True, 5, "start", ["start", "a", "b"], (), ("start",), ("start", "a"), ("start", "a", "b", "c"),
+    ("add", "a", "b"),
     ("add", "a", "b", "c", "d"), ("split", "a", "b", "c"), ("split", "a", "b", "c", "d", "e"), ("Start", "a", "b"),
     ("a", "b"), ("", "a", "b"), (None, "a", "b"), (["start"], "a", "b"), ({}, "a", "b"), (0, "a", "b"),
     ("start", "a", "b", None), ("start", ("a", "b")), {"start": 1}, [], ("a", "start", "b"), ("take", "a", "b", "c"),
@@ -153,10 +154,12 @@ class TestIsBuilding(unittest.TestCase):
         frame = Frame(frame.joints, frame.bars[:5])
         good = [("start", "a", "c"), ("add", "b", "a", "c"), ("add", "d", "c", "a")]
         split = [("start", "d", "b"), ("add", "a", "b", "d"), ("split", "c", "d", "b", "a")]
-        for steps in (good, split, [("start", "c", "a"), *good[:0:-1]], [("start", "b", "c"), ("add", "a", "c", "b"), good[2]]):
+        other = [("start", "b", "c"), ("add", "a", "c", "b"), good[2]]
+        for steps in (good, split, [("start", "c", "a"), *good[:0:-1]], other):
             self.assertIs(is_building(frame, steps), True)
         for value in [
-            None, True, [], (), tuple(good), good[:2], good[1:], good[::-1], [list(step) for step in good], frame, [good],
+            None, True, [], (), tuple(good), good[:2], good[1:], good[::-1], [list(step) for step in good], frame,
+            [good],
             {}, "start", good[:2] + [("add", "d", "c", "b")], good[:2] + [("add", "e", "c", "a")], good[:2] * 2,
             [*good, ("add", "e", "a", "b")], [*good, None], split[:2] + [("split", "c", "d", "a", "b")],
             [("start", "a", "c", "b"), *good[1:]], [*good, good[2]], good * 5, [*good[:2], ("add", "d", "c", "a", "b")],
@@ -313,6 +316,16 @@ class TestSpread(unittest.TestCase):
         self.assertIs(is_spread(prism, prism), False)
         self.check_spread(prism)
         self.check_spread(Frame(joints(a=(1, 1), b=(1, 1), c=(1, 1)), []))
+
+    def test_stress_off_all_lines(self):
+        # Steps that lead to a frame with a stress at places of which no three are on one line.
+        steps = [("start", "n", "j"), ("add", "k", "n", "j"), ("split", "p", "n", "k", "j"),
+                 ("split", "o", "j", "k", "n"), ("split", "e", "n", "p", "k")]
+        held, linked = slow_built(steps)
+        self.check_spread(frame_of(sorted(held), sorted(map(sorted, linked)), at_one_line=True))
+        for steps in some_steps(100, 5, most=7):
+            held, linked = slow_built(steps)
+            self.check_spread(frame_of(sorted(held), sorted(map(sorted, linked)), at_one_line=True))
 
     def test_edges(self):
         for frame in (Frame([], []), Frame(joints(a=(5, 5)), [], grounds=[("a", "fixed")]), triangle(), wheel()):

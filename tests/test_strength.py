@@ -99,6 +99,14 @@ class TestCollapse(unittest.TestCase):
         answer = collapse(frame, load, limits)
         self.assertEqual(answer[:3], ("falls", q(13), [("ab", q(4)), ("bc", q(-5))]))
         self.check_fall(frame, load, limits, answer)
+        word, factor, pulls, reactions, velocities = answer
+        self.assertIs(is_collapse(frame, load, limits, answer), True)
+        # Other forces for the same load, of which one is more than its limit.
+        for ab, bc in ((5, -3), (3, -7), (Fraction(9, 2), -4), (Fraction(7, 2), -6)):
+            wrong = [("ab", q(ab)), ("bc", q(bc))]
+            held = forces(a=(0, 2 * ab), c=(0, -bc), b=(0, 0))
+            check_forces(self, frame, load * factor, wrong, held)
+            self.assertIs(is_collapse(frame, load, limits, (word, factor, wrong, held, velocities)), False)
         self.assertEqual(collapse(frame, load, [("bc", q(5), None)])[0], "endless")
         self.assertEqual(collapse(frame, load, [("bc", None, q(0)), ("ab", q(1), q(1))])[0], "endless")
 
@@ -191,7 +199,8 @@ class TestIsCollapse(unittest.TestCase):
             ("falls", factor, pulls, forces(a=(0, 5), b=(0, 0)), moves), ("falls", factor, pulls[:0], reactions, moves),
             ("falls", factor, pulls, reactions, forces(a=(0, 0), b=(0, -2))), ("falls", None, *good[2:]),
             ("falls", factor, pulls, reactions, forces(a=(0, 0), b=(1, -1))), ("falls", factor, None, None, None),
-            ("falls", factor, pulls, reactions, forces(a=(0, 1), b=(0, -1))), ("falls", factor, reactions, pulls, moves),
+            ("falls", factor, pulls, reactions, forces(a=(0, 1), b=(0, -1))),
+            ("falls", factor, reactions, pulls, moves),
             ("falls", factor, tuple(pulls), reactions, moves), ("falls", factor, pulls, tuple(reactions), moves),
             ("falls", factor, pulls, reactions, tuple(moves)), ("falls", factor, pulls, reactions[::-1], moves),
         ]:
@@ -233,7 +242,8 @@ class TestIsCollapse(unittest.TestCase):
             None, (), good[:2], list(good), (*good, []), ("forces", pulls, reactions), ("Endless", pulls, reactions),
             ("endless", reactions, pulls), ("endless", tuple(pulls), reactions), ("endless", pulls, tuple(reactions)),
             ("endless", pulls, reactions[::-1]), ("endless", [("ba", q(1, 2))], reactions), ("endless", None, None),
-            ("endless", [("ab", q(1))], reactions), ("endless", pulls, forces(a=(0, 2), b=(0, 0))), (True, pulls, reactions),
+            ("endless", [("ab", q(1))], reactions), ("endless", pulls, forces(a=(0, 2), b=(0, 0))),
+            (True, pulls, reactions),
             ("endless", pulls, forces(a=(0, 0), b=(0, 1))), (frame, pulls, reactions),
         ]:
             self.assertIs(is_collapse(frame, load, [], answer), False)
@@ -249,7 +259,8 @@ class TestIsCollapse(unittest.TestCase):
             self.check_limit_kinds(call, frame, far)
             for names, kind, told in [
                 (["ab"] * 31, OutOfBounds, {"argument": "limits"}), ([f"b{k}" for k in range(31)], OutOfBounds, {}),
-                (["zz"] * 30, RepeatedName, {"repeated": "zz"}), (["ab", "zz", "bc", "zz", "ab"], RepeatedName, {"repeated": "zz"}),
+                (["zz"] * 30, RepeatedName, {"repeated": "zz"}),
+                (["ab", "zz", "bc", "zz", "ab"], RepeatedName, {"repeated": "zz"}),
             ]:
                 check_error(self, kind, told, call, frame, far, [(name, None, q(1)) for name in names])
             check_error(self, UnknownName, {"unknown": "x"}, call, frame, far, [("zz", q(1), q(1))])
@@ -258,7 +269,8 @@ class TestIsCollapse(unittest.TestCase):
 
     def check_limit_kinds(self, call, frame, *rest):
         for value in [
-            None, 1, (), {}, "ab", [None], [["ab", None, None]], [("ab", None)], [("ab", None, None, None)], [()], ["ab"],
+            None, 1, (), {}, "ab", [None], [["ab", None, None]], [("ab", None)], [("ab", None, None, None)], [()],
+            ["ab"],
             [("ab", q(1), q(1)), None], frame, [("ab",)], [(None, None, None)],
         ]:
             check_error(self, WrongKind, {"argument": "limits"}, call, frame, *rest, value)
@@ -278,7 +290,8 @@ class TestDissipation(unittest.TestCase):
         for limits, due in [
             ([("ab", q(7), q(2)), ("bc", q(1, 3), q(5)), ("ca", None, None)], q(11)),
             ([("bc", q(1, 3), None), ("ab", None, q(2))], q(11)), ([("ab", None, q(0)), ("bc", q(0), None)], q(0)),
-            ([], None), ([("ab", q(1), None), ("bc", q(1), q(1))], None), ([("ab", q(1), q(1)), ("bc", None, q(1))], None),
+            ([], None), ([("ab", q(1), None), ("bc", q(1), q(1))], None),
+            ([("ab", q(1), q(1)), ("bc", None, q(1))], None),
             ([("ab", q(1), q(1))], None), ([("ca", q(1), q(1))], None),
         ]:
             self.assertEqual(dissipation(frame, limits, moves), due)
@@ -304,12 +317,15 @@ class TestDissipation(unittest.TestCase):
             check_error(self, WrongKind, {"argument": "frame"}, dissipation, value, None, None)
         self.check_kinds(frame)
         for value in [None, good[:2], good[::-1], tuple(good), [], {}]:
-            check_error(self, WrongKind, {"argument": "velocities"}, dissipation, frame, [("zz", None, None)] * 31, value)
+            many = [("zz", None, None)] * 31
+            check_error(self, WrongKind, {"argument": "velocities"}, dissipation, frame, many, value)
         for value in NO_RATIOS:
-            check_error(self, WrongKind, {"argument": "velocities"}, dissipation, frame, [], [*good[:2], ("c", value, q(0))])
+            wrong = [*good[:2], ("c", value, q(0))]
+            check_error(self, WrongKind, {"argument": "velocities"}, dissipation, frame, [], wrong)
         check_error(self, OutOfBounds, {"argument": "limits"}, dissipation, frame, [("zz", None, None)] * 31, good)
         check_error(self, RepeatedName, {"repeated": "zz"}, dissipation, frame, [("zz", None, None)] * 30, good)
-        check_error(self, UnknownName, {"unknown": "zz"}, dissipation, frame, [("ab", None, None), ("zz", None, None)], good)
+        limits = [("ab", None, None), ("zz", None, None)]
+        check_error(self, UnknownName, {"unknown": "zz"}, dissipation, frame, limits, good)
 
     def check_kinds(self, frame):
         TestIsCollapse.check_limit_kinds(self, lambda frame, limits: dissipation(frame, limits, None), frame)
@@ -392,12 +408,14 @@ class TestSag(unittest.TestCase):
         self.assertIs(is_sag(frame, load, [("ab", q(4))], good), False)
         self.assertIs(is_sag(frame, load * q(2), springs, good), False)
         for answer in [
-            None, True, "sags", (), list(good), good[:3], (*good, []), ("motion", moves), ("forces", pulls, reactions), {},
+            None, True, "sags", (), list(good), good[:3], (*good, []), ("motion", moves), ("forces", pulls, reactions),
+            {},
             ("Sags", *good[1:]), ("motion", moves, pulls, reactions), ("sags", moves[::-1], pulls, reactions), frame,
             ("sags", forces(a=(0, 0), b=(1, 0)), pulls, reactions), ("sags", moves, [("ab", q(1))], reactions),
             ("sags", None, pulls, reactions), ("sags", moves, None, reactions), ("sags", moves, pulls, []),
             ("sags", moves, pulls, forces(a=(0, 2), b=(0, 0))), ("sags", moves, pulls, reactions[::-1]),
-            ("sags", tuple(moves), pulls, reactions), ("sags", moves, tuple(pulls), reactions), ("sags", pulls, pulls, pulls),
+            ("sags", tuple(moves), pulls, reactions), ("sags", moves, tuple(pulls), reactions),
+            ("sags", pulls, pulls, pulls),
             ("sags", moves, pulls, tuple(reactions)), ("motion", forces(a=(0, 0), b=(0, -1))), ("motion", None),
             ("sags", [("a", q(0), q(0)), ("b", q(1), moves[1][2])], pulls, reactions),
             ("sags", [("a", q(0), q(1)), ("b", q(0), q(fraction(moves[1][2]) + 1))], pulls, reactions),
@@ -405,15 +423,20 @@ class TestSag(unittest.TestCase):
             self.assertIs(is_sag(frame, load, springs, answer), False)
         for value in NO_RATIOS:
             self.assertIs(is_sag(frame, load, springs, ("sags", moves, [("ab", value)], reactions)), False)
-            self.assertIs(is_sag(frame, load, springs, ("sags", [moves[0], ("b", value, q(0))], pulls, reactions)), False)
+            wrong = [moves[0], ("b", value, q(0))]
+            self.assertIs(is_sag(frame, load, springs, ("sags", wrong, pulls, reactions)), False)
         # Any motion of the frame may be added.
         pair = Frame(joints(a=(0, 0), b=(1, 0)), bars("ab"))
         load = Load(forces(a=(-1, 0), b=(1, 0)))
         for a, b, due in [((0, 0), (1, 0), True), ((5, 7), (6, -3), True), ((0, 0), (2, 0), False)]:
             answer = ("sags", forces(a=a, b=b), [("ab", q(1))], [])
             self.assertIs(is_sag(pair, load, [("ab", q(1))], answer), due)
+        answer = ("sags", forces(a=(0, 0), b=(1, 0)), [("ab", (True, 1))], [])
+        self.assertIs(is_sag(pair, load, [("ab", q(1))], answer), False)
         answer = ("motion", forces(a=(0, 0), b=(0, 9)))
         self.assertIs(is_sag(pair, Load(forces(b=(0, 1))), [("ab", q(1))], answer), True)
+        for word in ("Motion", "", "sags", None, True):
+            self.assertIs(is_sag(pair, Load(forces(b=(0, 1))), [("ab", q(1))], (word, answer[1])), False)
         self.assertIs(is_sag(pair, Load(forces(b=(0, -1))), [("ab", q(1))], answer), False)
 
     def test_roles_have_no_effect(self):

@@ -41,9 +41,12 @@ class TestReadRatio(unittest.TestCase):
 
     def test_what_is_no_written_form(self):
         for word in [
-            "", "-", "/", "+1", "1+", "--1", "1-", "-0", "00", "01", "-01", "0/1", "1/1", "-5/1", "0/5", "-0/5", "2/4", "-2/4",
-            "10/5", "1/0", "0/0", "1/-2", "-1/-2", "1/02", "01/2", "1/", "/2", "-/2", "1/2/3", "1//2", " 1", "1 ", "1 2",
-            "1/ 2", "1 /2", "\n1", "1\n", "1/2\n", "0.5", "1.0", "1,5", "1e3", "1_000", "0x10", "a", "1a", "a1", "1/a", "b/2",
+            "", "-", "/", "+1", "1+", "--1", "1-", "-0", "00", "01", "-01", "0/1", "1/1", "-5/1", "0/5", "-0/5", "2/4",
+            "-2/4",
+            "10/5", "1/0", "0/0", "1/-2", "-1/-2", "1/02", "01/2", "1/", "/2", "-/2", "1/2/3", "1//2", " 1", "1 ",
+            "1 2",
+            "1/ 2", "1 /2", "\n1", "1\n", "1/2\n", "0.5", "1.0", "1,5", "1e3", "1_000", "0x10", "a", "1a", "a1", "1/a",
+            "b/2",
             "fixed", "None", "~1", "#1", "(1)", "1/2-", "1/+2", "- 1", "1:2", "0-", "/", "//", "-/", "1/00", "00/1",
         ]:
             self.assertIsNone(read_ratio(word), word)
@@ -76,7 +79,8 @@ class TestReadRatio(unittest.TestCase):
         self.assertEqual(read_ratio("1" + "0" * 399 + "/" + long), (10 ** 399, int(long)))
         self.assertEqual(read_ratio("-1" + "0" * 399 + "/" + long), (-10 ** 399, int(long)))
         for word in [
-            longer, "-" + longer, "1/" + longer, longer + "/7", "1" + "0" * 400, "0" * 401, "0" * 400, "1/1" + "0" * 400,
+            longer, "-" + longer, "1/" + longer, longer + "/7", "1" + "0" * 400, "0" * 401, "0" * 400,
+            "1/1" + "0" * 400,
             "-1" + "0" * 400 + "/3", "0" + long, "9" * 5000, "1/" + "9" * 100000, "9" * 100000 + "/" + "7" * 100000,
             "-" * 100000, "/" * 100000, "a" * 100000, "-" + "9" * 100000,
         ]:
@@ -100,7 +104,8 @@ class TestSplitRow(unittest.TestCase):
     def test_words_at_their_columns(self):
         source = random.Random(122)
         for _ in range(200):
-            row = " ".join("".join(source.choices("ab/#-1", k=source.randint(1, 4))) for _ in range(source.randint(1, 6)))
+            words = [source.choices("ab/#-1", k=source.randint(1, 4)) for _ in range(source.randint(1, 6))]
+            row = " ".join("".join(word) for word in words)
             found = split_row(row, 1)
             self.assertEqual(" ".join(word for word, _ in found), row)
             for word, column in found:
@@ -113,7 +118,8 @@ class TestSplitRow(unittest.TestCase):
 
     def test_spacing(self):
         for row, column in [
-            (" ", 1), ("  ", 1), (" a", 1), ("a ", 3), ("ab ", 4), ("a  b", 3), ("a b ", 5), ("a b  ", 5), ("ab cd  e ", 7),
+            (" ", 1), ("  ", 1), (" a", 1), ("a ", 3), ("ab ", 4), ("a  b", 3), ("a b ", 5), ("a b  ", 5),
+            ("ab cd  e ", 7),
             ("  a", 1), ("a   b", 3), (" a  b", 1), ("# ", 3), ("x" * 100000 + " ", 100002),
         ]:
             for line in (1, 17, HUGE):
