@@ -60,7 +60,7 @@ def _is_row(item, name, size):
     return item[0] == name and all([is_ratio(part) for part in item[1:]])
 
 
-def _are_rows(value, names, size):
+def are_rows(value, names, size):
     """True if the value is a list of a tuple for each name in order: the name and this many ratios."""
     if not isinstance(value, list) or len(value) != len(names):
         return False
@@ -69,18 +69,18 @@ def _are_rows(value, names, size):
 
 def is_pulls(frame, value):
     """True if the value has the form of pulls for the frame."""
-    return _are_rows(value, bar_names(frame), 1)
+    return are_rows(value, bar_names(frame), 1)
 
 
 def is_velocities(frame, value):
     """True if the value has the form of velocities, or of places, for the frame."""
-    return _are_rows(value, joint_names(frame), 2)
+    return are_rows(value, joint_names(frame), 2)
 
 
 def is_reactions(frame, value):
     """True if the value has the form of reactions for the frame."""
     grounds = frame.grounds
-    if not _are_rows(value, [name for name, _ in grounds], 2):
+    if not are_rows(value, [name for name, _ in grounds], 2):
         return False
     return all([
         across == "fixed" or dot_product((x, y), across)[0] == 0

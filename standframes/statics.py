@@ -9,7 +9,7 @@ from standframes.points import difference, dot_product, left_turn, stretched, su
 FIXED_TURNS = (((1, 1), (0, 1)), ((0, 1), (1, 1)))
 
 
-def _column(names, forces):
+def column_of(names, forces):
     """The forces, a dict of points, as a column: x and then y for each joint."""
     column = []
     for name in names:
@@ -25,7 +25,7 @@ def bar_columns(frame):
     columns = []
     for bar, one, other, _ in frame.bars:
         x, y = frame.span(bar)
-        columns.append(_column(names, {one: (x, y), other: (opposite(x), opposite(y))}))
+        columns.append(column_of(names, {one: (x, y), other: (opposite(x), opposite(y))}))
     return columns
 
 
@@ -37,7 +37,7 @@ def ground_forces(across):
 def ground_columns(frame):
     """For each unknown of the reactions, in order, the forces on all joints when it is 1."""
     names = joint_names(frame)
-    return [_column(names, {joint: force}) for joint, across in frame.grounds for force in ground_forces(across)]
+    return [column_of(names, {joint: force}) for joint, across in frame.grounds for force in ground_forces(across)]
 
 
 def rows_of(columns, height):
@@ -47,7 +47,7 @@ def rows_of(columns, height):
 
 def load_column(frame, load):
     """The forces of the load on all joints."""
-    return _column(joint_names(frame), {name: (x, y) for name, x, y in load.entries})
+    return column_of(joint_names(frame), {name: (x, y) for name, x, y in load.entries})
 
 
 def pulls_of(frame, values):

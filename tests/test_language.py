@@ -20,7 +20,7 @@ METHODS = set(
     "items join keys ljust lower lstrip partition pop remove replace reverse rfind rjust rpartition rsplit rstrip setdefault "
     "split splitlines startswith strip update upper values zfill bit_length".split())
 BARRED_NODES = (
-    ast.AsyncFunctionDef, ast.Await, ast.Global, ast.GeneratorExp, ast.Div, ast.Try, ast.Lambda, ast.Yield,
+    ast.AsyncFunctionDef, ast.Await, ast.Global, ast.GeneratorExp, ast.Div, ast.Lambda, ast.Yield,
     ast.YieldFrom, ast.With, ast.Match, ast.NamedExpr, ast.AnnAssign, ast.Set, ast.SetComp, ast.Nonlocal, ast.Delete,
 )
 BARRED_NAMES = set(
@@ -116,6 +116,48 @@ INTERFACE = {
         "convex_outside": "(frame)",
     },
     "words": {"write_ratio": "(one)", "read_ratio": "(word)", "split_row": "(row, line)"},
+    "sheets": {
+        "Sheet": "(frame, loads, asks)", "Sheet.frame": None, "Sheet.loads": None, "Sheet.asks": None,
+        "Sheet.__eq__": "(self, other)", "read_sheet": "(text)", "write_sheet": "(sheet)",
+    },
+    "certificates": {
+        "write_certificate": "(certificate)", "read_certificate": "(text)", "answers": "(sheet)", "reply": "(text)",
+    },
+    "drives": {
+        "drive": "(frame, drives)", "is_drive": "(frame, drives, answer)", "swing": "(frame, velocities)",
+        "halfway": "(frame, other)",
+    },
+    "placing": {
+        "meet": "(one, other, first, second, *, side=1)",
+        "meet_line": "(place, direction, centre, squared, *, side=1)", "side_of": "(spot, one, other)",
+        "distance_sign": "(spot, centre, squared)", "turn_point": "(point, centre, tangent)",
+        "chain_reach": "(squares, distance)",
+    },
+    "linkages": {
+        "course": "(frame, *, crank=None)", "positions": "(frame, *, turn=None, squares=None)",
+        "fits_positions": "(frame, value, *, turn=None, squares=None)", "sweep": "(frame, crank, tangents)",
+    },
+    "mending": {
+        "spare": "(frame, bar)", "is_spare": "(frame, bar, answer)", "spare_bars": "(frame)",
+        "thin": "(frame, costs)", "is_thin": "(frame, costs, answer)", "offered": "(frame, offers)",
+        "mend": "(frame, offers)", "is_mend": "(frame, offers, answer)", "replacing": "(frame, bar, offers)",
+    },
+    "cheapest": {
+        "lightest": "(frame, load)", "is_lightest": "(frame, load, answer)", "tie_up": "(frame, load, offers)",
+        "is_tie_up": "(frame, load, offers, answer)",
+    },
+    "yards": {
+        "Yard": "(*, rule='free')", "Yard.replayed": "(deeds, rule)", "Yard.work": "(self, deed)",
+        "Yard.undo": "(self)", "Yard.redo": "(self)", "Yard.rule": None, "Yard.records": None, "Yard.frame": None,
+        "Yard.load": None, "Yard.count": "(self)", "Yard.__iter__": "(self)", "Yard.state": "(self, number)",
+        "Yard.twin": "(self)", "Yard.__eq__": "(self, other)", "keeps": "(frame, load, rule)",
+    },
+    "cranes": {
+        "sound": "(frame, load, order, *, rule)", "standing_order": "(frame)",
+        "is_standing_order": "(frame, answer)", "carrying_order": "(frame, load, *, rule='carry')",
+        "is_carrying_order": "(frame, load, answer, *, rule='carry')", "order_deeds": "(frame, load, order)",
+    },
+    "desks": {"write_deeds": "(deeds)", "read_deeds": "(text)", "run_rows": "(text, *, rule='free')"},
     "faces": {
         "crossing": "(frame)", "is_flat": "(frame)", "faces": "(frame)", "is_cover": "(frame, value)",
         "double_area": "(frame, walk)", "outer_face": "(frame)", "ring": "(frame, walks, joint)",
@@ -239,9 +281,49 @@ class TestCode(unittest.TestCase):
                     self.assertIsInstance(node.value.value, str)
                 elif isinstance(node, ast.Assign):
                     self.assertEqual(len(node.targets), 1)
-                    ast.literal_eval(node.value)
+                    self.check_plain(tree.body[:at], node.value)
                 else:
                     self.assertIsInstance(node, (ast.FunctionDef, ast.ClassDef, ast.ImportFrom))
+
+    def check_plain(self, before, value):
+        """The value is a literal, or a dict of functions that are defined above it."""
+        functions = {node.name for node in before if isinstance(node, ast.FunctionDef)}
+        if isinstance(value, ast.Dict) and all(isinstance(item, ast.Name) for item in value.values):
+            self.assertTrue({item.id for item in value.values} <= functions)
+        else:
+            ast.literal_eval(value)
+
+    def test_only_own_errors_are_caught(self):
+        own = {
+            node.name for path, tree in trees() if path.name == "errors.py" for node in tree.body
+            if isinstance(node, ast.ClassDef)}
+        for path, tree in trees():
+            for node in ast.walk(tree):
+                if isinstance(node, ast.Try):
+                    self.assertFalse(node.finalbody or node.orelse, f"{path} {node.lineno}")
+                    for handler in node.handlers:
+                        caught = handler.type.elts if isinstance(handler.type, ast.Tuple) else [handler.type]
+                        self.assertTrue({item.id for item in caught} <= own - {"FrameError"}, f"{path} {node.lineno}")
+
+    def test_lists_and_dicts_at_module_level_are_not_passed_on(self):
+        """They are read by an index, by `in`, and as copies; functions in them are called by a name of their own."""
+        for path, tree in trees():
+            tables = {
+                node.targets[0].id for node in tree.body
+                if isinstance(node, ast.Assign) and isinstance(node.value, (ast.List, ast.Dict))}
+            fine = set()
+            for node in ast.walk(tree):
+                if isinstance(node, ast.Subscript) and isinstance(node.ctx, ast.Load):
+                    fine.add(node.value)
+                elif isinstance(node, ast.Compare):
+                    fine.update(node.comparators)
+                elif isinstance(node, ast.Call) and isinstance(node.func, ast.Name) and node.func.id in ("list", "dict"):
+                    fine.update(node.args)
+                elif isinstance(node, ast.Call):
+                    self.assertNotIsInstance(node.func, ast.Subscript, f"{path} {node.lineno}")
+            for node in ast.walk(tree):
+                if isinstance(node, ast.Name) and node.id in tables and isinstance(node.ctx, ast.Load):
+                    self.assertIn(node, fine, f"{path} {node.lineno}")
 
     def test_names(self):
         for path, tree in trees():
@@ -341,7 +423,14 @@ class TestInterface(unittest.TestCase):
     def test_properties(self):
         from standframes.frames import Frame
         from standframes.loads import Load
-        for owner, names in ((Frame, ("joints", "bars", "grounds")), (Load, ("entries",))):
+        from standframes.sheets import Sheet
+        from standframes.yards import Yard
+        for owner, names in (
+            (Frame, ("joints", "bars", "grounds")), (Load, ("entries",)), (Sheet, ("frame", "loads", "asks")),
+            (Yard, ("rule", "records", "frame", "load")),
+        ):
             for name in names:
                 self.assertIsInstance(vars(owner)[name], property)
         self.assertIsInstance(vars(Load)["single"], staticmethod)
+        self.assertIsInstance(vars(Yard)["replayed"], staticmethod)
+        self.assertEqual((Frame.MOST_JOINTS, Frame.MOST_BARS, Yard.MOST_RECORDS), (12, 30, 40))
