@@ -1,7 +1,7 @@
 """Cranes: orders in which the joints of a frame can be set, one at a time."""
 
 from standframes.changes import part_load, part_on
-from standframes.checks import check_group, is_names, joint_names, need_frame, need_joints_there, need_names
+from standframes.checks import is_names, joint_names, need_frame, need_joints_there, need_names
 from standframes.errors import OutOfBounds
 from standframes.frames import need_each_once
 from standframes.loads import Load, need_joints_of_load, need_load
