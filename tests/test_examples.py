@@ -44,6 +44,20 @@ EXAMPLES = """
 >>> from standframes.words import split_row
 >>> split_row("cut ab", 4)
 [('cut', 1), ('ab', 5)]
+>>> from standframes.certificates import reply
+>>> reply("joint a 0 0\\nload w\\npush w a 1 0\\nask freedom\\nask carry w\\n")
+'freedom 2\\ncarry w motion\\n'
+>>> from standframes.certificates import write_certificate
+>>> write_certificate(("motion", [("a", (0, 1), (-1, 2))]))
+'motion\\nmove a 0 -1/2\\n'
+>>> from standframes.placing import meet
+>>> meet(((0, 1), (0, 1)), ((6, 1), (0, 1)), (25, 1), (25, 1), side=-1)
+('at', ((3, 1), (-4, 1)))
+>>> meet(((0, 1), (0, 1)), ((6, 1), (0, 1)), (4, 1), (9, 1))
+('far', (36, 1))
+>>> from standframes.desks import run_rows
+>>> run_rows("joint a 0 0 fixed\\ncut b\\nundo\\nundo\\n")[1]
+[(1, 'done'), (2, 'unknown'), (3, 'undone'), (4, 'empty')]
 """
 
 
