@@ -46,7 +46,7 @@ class Yard:
     def __init__(self, *, rule="free"):
         need_rule(rule, RULES)
         self._rule = rule
-        self._records = []
+        self._done = []
         # What the frame and the load were before each record, and at the end what they are.
         self._states = [(Frame([], []), Load([]))]
         # The deeds that can be done again, each with the frame and the load after it; the next one is the last.
@@ -57,7 +57,6 @@ class Yard:
         """A new yard with this rule that has done these deeds."""
         if not isinstance(deeds, list):
             raise WrongKind("deeds")
-        need_rule(rule, RULES)
         yard = Yard(rule=rule)
         for deed in deeds:
             yard.work(deed)
@@ -69,7 +68,7 @@ class Yard:
 
     @property
     def records(self):
-        return list(self._records)
+        return list(self._done)
 
     @property
     def frame(self):
@@ -80,7 +79,7 @@ class Yard:
         return self._states[-1][1]
 
     def _need_room(self, deed):
-        if len(self._records) >= Yard.MOST_RECORDS:
+        if len(self._done) >= Yard.MOST_RECORDS:
             raise OutOfBounds("deed")
         if len(self.frame.joints) + len(new_joints(deed)) > Frame.MOST_JOINTS:
             raise OutOfBounds("deed")
@@ -97,16 +96,16 @@ class Yard:
         velocities = danger(frame, load, self._rule)
         if velocities is not None:
             raise Unsafe(velocities)
-        self._records.append(deed)
+        self._done.append(deed)
         self._states.append((frame, load))
         self._undone = []
-        return len(self._records)
+        return len(self._done)
 
     def undo(self):
         """Takes back the last record, and returns it."""
-        if not self._records:
+        if not self._done:
             raise NothingToUndo()
-        deed = self._records.pop()
+        deed = self._done.pop()
         self._undone.append((deed, self._states.pop()))
         return deed
 
@@ -115,32 +114,32 @@ class Yard:
         if not self._undone:
             raise NothingToRedo()
         deed, state = self._undone.pop()
-        self._records.append(deed)
+        self._done.append(deed)
         self._states.append(state)
         return deed
 
     def count(self):
         """The number of records."""
-        return len(self._records)
+        return len(self._done)
 
     def __iter__(self):
-        return iter(self._records)
+        return iter(self._done)
 
     def state(self, number):
         """The frame and the load after this many records."""
         if not is_integer(number):
             raise WrongKind("number")
-        if not 0 <= number <= len(self._records):
+        if not 0 <= number <= len(self._done):
             raise OutOfBounds("number")
         return self._states[number]
 
     def twin(self):
         """A new yard with the same rule, the same records and the same deeds to redo."""
         yard = Yard(rule=self._rule)
-        yard._records = list(self._records)
+        yard._done = list(self._done)
         yard._states = list(self._states)
         yard._undone = list(self._undone)
         return yard
 
     def __eq__(self, other):
-        return isinstance(other, Yard) and self._rule == other._rule and self._records == other._records
+        return isinstance(other, Yard) and self._rule == other._rule and self._done == other._done

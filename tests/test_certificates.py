@@ -229,6 +229,8 @@ class TestReply(unittest.TestCase):
             ("joint a 0 0\nask lock a a\nask steady\nask lock a a\n",
              "lock a a forces\nsteady motion\nlock a a forces\n"),
             ("joint a 0 0\njoint b 1 0\nask lock a b\n", "lock a b motion\n"),
+            ("load kept\nload freedom\nload stresses\nask carry kept\nask hold freedom\nask carry stresses\n",
+             "carry kept forces\nhold freedom forces\ncarry stresses forces\n"),
         ]:
             self.assertEqual(reply(text), due)
 

@@ -110,6 +110,7 @@ class TestLightest(unittest.TestCase):
             (word, size, pulls, reactions, forces(a=(0, 0), b=(0, 0), c=(0, 0), m=(0, -3))),
             (word, size, pulls, forces(a=(0, 0), b=(0, 7), c=(0, 0)), moves), (None, *good[1:]),
             (word, q(32), [("am", q(0)), ("bm", q(-2)), ("cm", q(0))], reactions, moves),
+            (word, (32, True), pulls, reactions, moves),
         ]:
             self.assertIs(is_lightest(frame, load, answer), False)
         for value in NO_RATIOS:
@@ -134,6 +135,10 @@ class TestLightest(unittest.TestCase):
         for speed, due in [(2, True), (-2, True), (0, True), (1, True), (3, False), (-3, False)]:
             moves = forces(a=(0, 0), b=(speed, 0))
             self.assertIs(is_lightest(frame, Load([]), (*zero[:4], moves)), due)
+        small = Frame(joints(a=(0, 0), b=(1, 0)), bars("ab"), grounds=[("a", "fixed"), ("b", point(1, 0))])
+        for speed, due in [(1, True), (-1, True), (2, False), (-2, False), (q(11, 10), False), (q(-11, 10), False)]:
+            moves = [("a", q(0), q(0)), ("b", speed if isinstance(speed, tuple) else q(speed), q(0))]
+            self.assertIs(is_lightest(small, Load([]), (*zero[:4], moves)), due)
 
     def test_motions(self):
         alone, load = Frame(joints(a=(1, 1)), []), Load(forces(a=(0, 4)))

@@ -166,6 +166,11 @@ class TestStandingOrder(unittest.TestCase):
                           ("abz", False), ("aab", False)]:
             self.assertIs(is_standing_order(stuck, ("stuck", list(some))), due)
         self.assertIs(is_standing_order(stuck, ("stuck", ("a", "b"))), False)
+        for word in ("Stuck", "order", "", None, True, "groups"):
+            self.assertIs(is_standing_order(stuck, (word, ["a", "b"])), False)
+        more = Frame(stuck.joints + joints(d=(9, 9)), stuck.bars, grounds=stuck.grounds)
+        for some, due in [("ab", True), ("abz", False), ("zab", False), ("abc", False), ("abab", False)]:
+            self.assertIs(is_standing_order(more, ("stuck", list(some))), due)
         self.assertIs(is_standing_order(stuck, ("stuck", ["a", ["b"]])), False)
         self.assertIs(is_standing_order(Frame([], []), ("order", [])), True)
         self.assertIs(is_standing_order(Frame([], []), ("stuck", [])), False)

@@ -264,6 +264,8 @@ class TestRunRows(unittest.TestCase):
         self.assertEqual(outcomes, [(1, "done"), (2, "unknown"), (3, "undone"), (4, "empty")])
         self.assertEqual((yard.records, undone(yard)), ([], [setting("a", 0, 0, "fixed")]))
         self.assertEqual(run_rows(""), (Yard(), []))
+        yard, outcomes = run_rows("joint undo 0 0 none\njoint redo 1 0 none undo undo rod\ncut redo\ndrop redo\ncut undo\n")
+        self.assertEqual([word for _, word in outcomes], ["done", "done", "unknown", "done", "unknown"])
         for rule in ("free", "carry", "hold", "stand"):
             yard, outcomes = run_rows("", rule=rule)
             self.assertEqual((yard, outcomes), (Yard(rule=rule), []))

@@ -471,6 +471,15 @@ class TestMend(unittest.TestCase):
         self.assertIs(is_mend(free, offers, (word, [], certificates)), True)
         self.assertIs(is_mend(free, offers, (word, [], [both, certificates[1]])), False)
 
+    def test_is_mend_that_does_not_stand(self):
+        # As many offers as the freedom, and certificates for all others, but the frame still moves.
+        frame = Frame(joints(a=(0, 0), b=(1, 0), c=(1, 1)), bars("bc"), grounds=[("a", "fixed"), ("b", "fixed")])
+        offers = [("n", "a", "b", q(1))]
+        self.assertEqual(mend(frame, offers)[0], "beyond")
+        self.assertIs(is_mend(frame, offers, ("mended", ["n"], [])), False)
+        self.assertIs(is_mend(frame, offers + [("m", "a", "c", q(1))], ("mended", ["n"], [])), False)
+        self.assertEqual(mend(frame, offers + [("m", "a", "c", q(1))])[:2], ("mended", ["m"]))
+
     def test_is_beyond(self):
         frame = square()
         for c, d, due in [((1, 0), (1, 0), True), ((-3, 0), (-3, 0), True), ((0, 0), (0, 0), False),

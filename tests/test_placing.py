@@ -14,7 +14,8 @@ NO_SPOTS = [
     ("root", q(1), point(1, 2), q(1)), ("root", point(1, 2), point(1, 2), 2), ("far", q(1)), ("near", q(1)),
     ("same",), ("At", point(1, 2)), ("root", point(1, 2), point(1, 2), q(1), q(1)), ("root", point(1, 2), q(1)), {},
     ("root", [q(1), q(2)], point(1, 2), q(1)), ("root", point(1, 2), point(1, 2), (2, 2)), (None, point(1, 2)),
-    ("at", point(1, 2), point(1, 2), q(1)), ("root", point(1, 2)), ([], point(1, 2)), (["at"], point(1, 2)),
+    ("at", point(1, 2), point(1, 2), q(1)), ("root", point(1, 2)), ([], point(1, 2)), ("Root", point(1, 2), point(1, 2), q(1)), (None, point(1, 2), point(1, 2), q(1)),
+     (["at"], point(1, 2)),
     ("root", point(1, 2), point(1, 2), None), ("root", point(1, 2), point(1, 2), True),
 ]
 NO_POSITIVES = [*NO_RATIOS, q(0), q(-1), q(-1, 7)]

@@ -20,6 +20,7 @@ NO_ASKS = [
     None, 1, "freedom", (), ("freedom", "a"), ("carry",), ("carry", "w", "w"), ("lock", "a"), ("lock", "a", "b", "a"),
     ["freedom"], ("ask", "freedom"), ("Freedom",), ("steady", "a"), ("kept", None), ("carry", 1), ("hold", "W"),
     ("lock", "a", "B"), (None,), (("freedom",),), ({},), ([],), ("stresses", "w"), ("",), (True,), ("free",),
+    ([], "w"), ({}, "a"), (None, "freedom"), ("w", "carry"),
 ]
 TEXT = """joint a 0 0
 joint b 2 0
