@@ -2,7 +2,9 @@
 
 import itertools
 import random
+import re
 from fractions import Fraction
+from math import gcd
 
 from helpers import forces, fraction, point, q
 from standframes.frames import Frame
@@ -243,3 +245,66 @@ def flat_frames(number, seed):
         for _ in names:
             reached |= {end for row in lines if reached & set(row[1:3]) for end in row[1:3]}
         yield Frame([row for row in places if row[0] in reached], [row for row in lines if row[1] in reached])
+
+
+def slow_number(word):
+    """The ratio of a number in a text by the words of point 41, or None."""
+    found = re.fullmatch("(-?)([0-9]{1,400})(?:/([0-9]{1,400}))?", word)
+    if not found:
+        return None
+    minus, above, below = found.groups()
+    if any(part and part != "0" and part.startswith("0") for part in (above, below)):
+        return None
+    if below is None:
+        return None if minus and above == "0" else q(int(minus + above))
+    if int(below) < 2 or gcd(int(above), int(below)) != 1:
+        return None
+    return (int(minus + above), int(below))
+
+
+def slow_columns(line):
+    """The words of a line, and their columns."""
+    words = line.split(" ")
+    return words, [sum(len(word) + 1 for word in words[:k]) + 1 for k in range(len(words))]
+
+
+def slow_row(line, shapes, places):
+    """The first of the faults 1 to 4 of point 42 in a row as (column, fault), or None.
+
+    The shapes have a letter for each word behind the first one, by the first word and the word at its place, if it has
+    one. A shape that ends with a + goes on with any number of bars.
+    """
+    words, at = slow_columns(line)
+    if "" in words:
+        return (at[words.index("")], "spacing")
+    place = places.get(words[0])
+    if words[0] not in {key.split()[0] for key in shapes}:
+        return (1, "row")
+    if place and len(words) <= place:
+        return (len(line) + 1, "count")
+    shape = shapes.get(f"{words[0]} {words[place]}" if place else words[0])
+    if shape is None:
+        return (at[place], "word")
+    if shape.endswith("+"):
+        rest = len(words) - len(shape)
+        if rest < 0 or rest % 3:
+            return (len(line) + 1, "count")
+        shape = shape[:-1] + "nnr" * (rest // 3)
+    if len(words) > len(shape) + 1:
+        return (at[len(shape) + 1], "count")
+    if len(words) <= len(shape):
+        return (len(line) + 1, "count")
+    for k, (word, form) in enumerate(zip(words[1:], shape), 1):
+        good = {"n": re.fullmatch("[a-z][a-z0-9]{0,7}", word), "r": word in ("rod", "tie", "prop"), "?": True,
+                "#": slow_number(word)}[form]
+        if not good or (place and k == place + 1 and words[place:place + 3] == ["slide", "0", "0"]):
+            return (at[k], "word")
+    return None
+
+
+def slow_lines(text):
+    """The rows of a text with their lines, or the fault of its end."""
+    lines = text.split("\n")
+    if lines[-1]:
+        return (len(lines), len(lines[-1]) + 1, "end")
+    return [(at, line) for at, line in enumerate(lines[:-1], 1) if line and line[0] != "#"]

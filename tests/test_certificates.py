@@ -129,7 +129,8 @@ class TestReadCertificate(unittest.TestCase):
         for words, line in [
             ("pull", 1), ("react", 1), ("move", 1), ("forces forces", 2), ("forces motion", 2), ("motion forces", 2),
             ("motion motion", 2), ("forces move", 2), ("motion pull", 2), ("motion react", 2), ("forces react pull", 3),
-            ("forces pull move", 3), ("forces pull forces", 3), ("forces react forces", 3), ("motion move move pull", 4),
+            ("forces pull move", 3), ("forces pull forces", 3), ("forces react forces", 3),
+            ("motion move move pull", 4),
             ("forces pull react pull", 4), ("motion move motion", 3), ("forces react move", 3),
             ("motion move react", 3), ("forces react motion", 3), ("motion move forces", 3), ("forces pull motion", 3),
         ]:

@@ -1,6 +1,6 @@
 import unittest
 
-from helpers import NO_NAMES, NO_POINTS, NO_RATIOS, bars, check_error, forces, joints, point, q, qs, triangle
+from helpers import NO_NAMES, NO_POINTS, NO_RATIOS, check_error, forces, joints, point, q, qs, triangle
 from standframes import changes
 from standframes.changes import (
     bare, mapped, mapped_load, moved, part, part_load, with_bar, with_ground, with_joint, without_bar, without_joint,

@@ -8,7 +8,8 @@ from helpers import (
     joints, point, q, triangle,
 )
 from reference import (
-    balanced, carried, check_forces, check_grounds_kept, check_motion, check_roles_kept, slow_power, slow_rates, some_frames,
+    balanced, carried, check_forces, check_grounds_kept, check_motion, check_roles_kept, slow_power, slow_rates,
+    some_frames,
 )
 from standframes.cheapest import is_lightest, is_tie_up, lightest, tie_up
 from standframes.errors import OutOfBounds, RepeatedName, UnknownName, WrongKind, ZeroBar
@@ -99,8 +100,10 @@ class TestLightest(unittest.TestCase):
         other = [("am", q(1)), ("bm", q(0)), ("cm", q(1))]
         held = forces(a=(-3, 4), b=(0, 0), c=(3, 4))
         for answer in [
-            None, 1, word, (), good[:4], list(good), (*good, 1), ("Lightest", *good[1:]), (word, q(50), other, held, moves),
-            (word, q(32), other, held, moves), (word, q(31), pulls, reactions, moves), (word, 32, pulls, reactions, moves),
+            None, 1, word, (), good[:4], list(good), (*good, 1), ("Lightest", *good[1:]),
+            (word, q(50), other, held, moves),
+            (word, q(32), other, held, moves), (word, q(31), pulls, reactions, moves),
+            (word, 32, pulls, reactions, moves),
             (word, size, pulls[::-1], reactions, moves), (word, size, pulls, reactions[::-1], moves),
             (word, size, pulls, reactions, zeros), (word, size, pulls, reactions, moves[::-1]),
             (word, size, tuple(pulls), reactions, moves), (word, size, pulls, tuple(reactions), moves),
@@ -277,7 +280,8 @@ class TestTieUp(unittest.TestCase):
             (word, tuple(chosen), failures), (word, chosen, tuple(failures)), (word, chosen[::-1], failures), {}, frame,
             (word, ["bm", "fm"], failures), (word, ["fm"], failures), (word, everything, failures), (word, [], []),
             (word, ["am", "am", "fm"], failures), (word, ["am", "zz"], failures), (word, "am", failures),
-            (word, chosen, [list(one) for one in failures]), (word, chosen, [(tuple(one), two) for one, two in failures]),
+            (word, chosen, [list(one) for one in failures]),
+            (word, chosen, [(tuple(one), two) for one, two in failures]),
             (word, chosen, failures + [None]), (word, chosen, failures + [(["am", "fm"], failures[0][1])]),
             (word, chosen, failures + [(["fm", "am"], failures[0][1])]), (word, chosen, failures + [([], None)]),
             ("unheld", failures[0][1]), ("unheld", chosen, failures), (word, chosen, failures[0]), (word, None, None),
@@ -341,7 +345,8 @@ class TestTieUp(unittest.TestCase):
             check_error(self, OutOfBounds, {"argument": "offers"}, call, frame, far, [("n", "x", "x", "rod", one)] * 7)
             for offers, name in [
                 ([("n", "x", "x", "rod", one)] * 6, "n"), ([("k", "m", "a", "tie", one)], "k"),
-                ([("am", "x", "y", "tie", one)], "am"), ([("k", "x", "y", "tie", one), ("l", "y", "x", "rod", one)], "l"),
+                ([("am", "x", "y", "tie", one)], "am"),
+                ([("k", "x", "y", "tie", one), ("l", "y", "x", "rod", one)], "l"),
             ]:
                 check_error(self, RepeatedName, {"repeated": name}, call, frame, far, offers)
             check_error(self, UnknownName, {"unknown": "x"}, call, frame, far, [("k", "u", "v", "rod", one)])
@@ -355,7 +360,8 @@ class TestTieUp(unittest.TestCase):
         for value in NO_OFFERS:
             check_error(self, WrongKind, {"argument": "offers"}, call, frame, far, value)
         for value in NO_NAMES:
-            for item in [(value, "a", "b", "rod", q(1)), ("n", value, "b", "rod", q(1)), ("n", "a", value, "rod", q(1))]:
+            for item in [(value, "a", "b", "rod", q(1)), ("n", value, "b", "rod", q(1)),
+                ("n", "a", value, "rod", q(1))]:
                 check_error(self, WrongKind, {"argument": "offers"}, call, frame, far, [item] * 7)
         for value in [*NO_RATIOS, q(-1), q(-1, 9)]:
             check_error(self, WrongKind, {"argument": "offers"}, call, frame, far, [("n", "a", "b", "rod", value)])
@@ -367,7 +373,8 @@ class TestTieUp(unittest.TestCase):
         offers = [(*row, q(1)) for row in lines[28:31]]
         self.assertEqual(tie_up(Frame(places, lines[:28]), Load([]), offers[:2]), ("held", [], []))
         check_error(self, OutOfBounds, {"argument": "offers"}, tie_up, Frame(places, lines[:28]), Load([]), offers)
-        check_error(self, OutOfBounds, {"argument": "offers"}, is_tie_up, Frame(places, lines[:28]), Load([]), offers, 1)
+        check_error(self, OutOfBounds, {"argument": "offers"}, is_tie_up, Frame(places, lines[:28]), Load([]), offers,
+            1)
 
     def test_nothing_changes(self):
         frame, load, offers = mast(), Load(forces(m=(3, -4))), stays()

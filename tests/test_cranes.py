@@ -156,13 +156,16 @@ class TestStandingOrder(unittest.TestCase):
             self.assertIs(is_standing_order(frame, ("stuck", list(order))), False)
         good = ["a", "b", "l", "t"]
         for answer in [
-            None, 1, "order", (), ("order",), ["order", good], ("order", good, 1), ("Order", good), ("order", tuple(good)),
-            ("order", "ablt"), ("order", None), (None, good), ("stuck", []), ("stuck", good), ("order", [good]), {}, frame,
+            None, 1, "order", (), ("order",), ["order", good], ("order", good, 1), ("Order", good),
+            ("order", tuple(good)),
+            ("order", "ablt"), ("order", None), (None, good), ("stuck", []), ("stuck", good), ("order", [good]), {},
+            frame,
             ("order", [["a"], "b", "l", "t"]), ("order", [1, 2, 3, 4]), ("order", {}), (True, good), good,
         ]:
             self.assertIs(is_standing_order(frame, answer), False)
         stuck = Frame(joints(a=(0, 0), b=(3, 0), c=(1, 1)), bars("ac"), grounds=[("a", "fixed"), ("b", "fixed")])
-        for some, due in [("ab", True), ("ba", True), ("a", False), ("", False), ("abc", False), ("aba", False), ("ac", False),
+        for some, due in [("ab", True), ("ba", True), ("a", False), ("", False), ("abc", False), ("aba", False),
+            ("ac", False),
                           ("abz", False), ("aab", False)]:
             self.assertIs(is_standing_order(stuck, ("stuck", list(some))), due)
         self.assertIs(is_standing_order(stuck, ("stuck", ("a", "b"))), False)
@@ -245,7 +248,8 @@ class TestCarryingOrder(unittest.TestCase):
     def check_stuck(self, frame, load, rule, groups, source):
         self.assertIs(self.slow_stuck(frame, load, rule, groups), True)
         less = [group for group in groups if source.random() < 0.8]
-        self.assertIs(is_carrying_order(frame, load, ("stuck", less), rule=rule), self.slow_stuck(frame, load, rule, less))
+        self.assertIs(is_carrying_order(frame, load, ("stuck", less), rule=rule),
+            self.slow_stuck(frame, load, rule, less))
 
     def slow_stuck(self, frame, load, rule, groups):
         names = names_of(frame)
@@ -279,8 +283,10 @@ class TestCarryingOrder(unittest.TestCase):
             (word, groups[1:]), (word, groups + groups[:1]), (word, [[]]), (word, [tuple(group) for group in groups]),
             (word, groups + [["b", "a"]]), (word, groups + [["zz"]]), (word, groups + [["a", "a"]]), (word, None), {},
             (word, groups + [None]), (word, groups + ["ab"]), (word, groups + [list("abfm")]), (word, groups + [[1]]),
-            ("order", list("abfm")), ("order", groups), (None, groups), frame, (word, [group for group in groups if group]),
-            (word, groups + [list("mabf")]), (word, [[], ["a"], ["b"], ["f"]]), ("order", []), (word, groups + [[["a"]]]),
+            ("order", list("abfm")), ("order", groups), (None, groups), frame,
+            (word, [group for group in groups if group]),
+            (word, groups + [list("mabf")]), (word, [[], ["a"], ["b"], ["f"]]), ("order", []),
+            (word, groups + [[["a"]]]),
         ]:
             self.assertIs(is_carrying_order(frame, load, answer, rule="hold"), False)
 

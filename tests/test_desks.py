@@ -1,17 +1,15 @@
 import copy
 import random
-import re
 import unittest
 
 from helpers import HUGE, check_error, check_fresh, forces, joints, point, q, triangle
-from reference import some_frames
+from reference import slow_lines, slow_row, some_frames
 from standframes.cranes import order_deeds
 from standframes.desks import read_deeds, run_rows, write_deeds
 from standframes.errors import BadText, FrameError, OutOfBounds, WrongKind
 from standframes.frames import Frame
 from standframes.loads import Load
 from standframes.yards import Yard
-from test_sheets import slow_number
 from test_yards import NO_DEEDS, NO_RULES, base, look, setting, undone
 
 NO_TEXTS = [None, 1, True, ["undo\n"], ("undo\n",), {}, triangle(), Load([]), Yard()]
@@ -63,7 +61,8 @@ class TestText(unittest.TestCase):
 
     def test_long_numbers(self):
         top = 10 ** 400 - 1
-        deeds = [("joint", "a", (top, 1), (-top, top - 1), ((1, top), (top, 1)), ()), ("load", "a", (-1, top), (top, 1))]
+        deeds = [("joint", "a", (top, 1), (-top, top - 1), ((1, top), (top, 1)), ()),
+            ("load", "a", (-1, top), (top, 1))]
         self.assertEqual(read_deeds(write_deeds(deeds)), deeds)
         text = write_deeds([("load", "a", (HUGE, 1), (-1, HUGE))])
         self.assertEqual(text, f"load a {HUGE} -1/{HUGE}\n")
@@ -117,7 +116,8 @@ class TestText(unittest.TestCase):
             ("joint a 0 0 none b c rod D e tie", 26), ("joint a 0 -0 fixed", 11), ("bar N a b rod", 5),
             ("bar n A b rod", 7), ("bar n a B rod", 9), ("bar n a b Rod", 11), ("bar n a b fixed", 11),
             ("ground A none", 8), ("ground a nonex", 10), ("ground A x y", 10), ("ground a free", 10),
-            ("ground a slide 0 0", 16), ("ground A slide 0 0", 8), ("ground a slide 0 01", 18), ("ground a slide 1/1 0", 16),
+            ("ground a slide 0 0", 16), ("ground A slide 0 0", 8), ("ground a slide 0 01", 18),
+            ("ground a slide 1/1 0", 16),
             ("load A 0 0", 6), ("load a x 0", 8), ("load a 0 2/4", 10), ("load 1 x y", 6), ("cut A", 5), ("cut 1", 5),
             ("drop abcdefghi", 6), ("drop -", 6),
         ]:
@@ -132,7 +132,8 @@ class TestText(unittest.TestCase):
     def test_order_of_faults(self):
         for text, line, column, word in [
             ("x\ncut  a\n", 1, 1, "row"), ("cut A\nx\n", 1, 5, "word"), ("joint A x y none b\n", 1, 19, "count"),
-            ("joint A x y zone  b\n", 1, 18, "spacing"), ("cut a\ncut A b\ncut\n", 2, 7, "count"), ("x  \ny", 2, 2, "end"),
+            ("joint A x y zone  b\n", 1, 18, "spacing"), ("cut a\ncut A b\ncut\n", 2, 7, "count"),
+            ("x  \ny", 2, 2, "end"),
         ]:
             fault(self, text, line, column, word)
 
@@ -170,55 +171,17 @@ class TestText(unittest.TestCase):
 
 SLOW_ROWS = {
     "bar": "nnnr", "ground none": "n?", "ground fixed": "n?", "ground slide": "n?##", "load": "n##", "cut": "n",
-    "drop": "n", "undo": "", "redo": "", "joint none": "n##?", "joint fixed": "n##?", "joint slide": "n##?##",
+    "drop": "n", "undo": "", "redo": "", "joint none": "n##?+", "joint fixed": "n##?+", "joint slide": "n##?##+",
 }
 
 
 def slow_fault(text):
     """The first fault of a text of rows, by the words of points 42 and 65, or None."""
-    lines = text.split("\n")
-    if lines[-1]:
-        return (len(lines), len(lines[-1]) + 1, "end")
-    for at, line in enumerate(lines[:-1], 1):
-        found = slow_row(line) if line and line[0] != "#" else None
-        if found:
-            return (at, *found)
-    return None
-
-
-def slow_row(line):
-    words = line.split(" ")
-    at = [sum(len(word) + 1 for word in words[:k]) + 1 for k in range(len(words))]
-    if "" in words:
-        return (at[words.index("")], "spacing")
-    first = words[0]
-    if first not in {key.split()[0] for key in SLOW_ROWS}:
-        return (1, "row")
-    shape = SLOW_ROWS.get(first)
-    if shape is None:
-        place = {"ground": 2, "joint": 4}[first]
-        if len(words) <= place:
-            return (len(line) + 1, "count")
-        shape = SLOW_ROWS.get(f"{first} {words[place]}")
-        if shape is None:
-            return (at[place], "word")
-    if first == "joint":
-        rest = len(words) - 1 - len(shape)
-        if rest < 0 or rest % 3:
-            return (len(line) + 1, "count")
-        shape += "nnr" * (rest // 3)
-    if len(words) > len(shape) + 1:
-        return (at[len(shape) + 1], "count")
-    if len(words) <= len(shape):
-        return (len(line) + 1, "count")
-    for k, (word, form) in enumerate(zip(words[1:], shape), 1):
-        good = {"n": re.fullmatch("[a-z][a-z0-9]{0,7}", word), "r": word in ("rod", "tie", "prop"), "?": True,
-                "#": slow_number(word)}[form]
-        if k == {"ground": 3, "joint": 5}.get(first) and words[k - 1] == "slide" and words[k:k + 2] == ["0", "0"]:
-            good = None
-        if not good:
-            return (at[k], "word")
-    return None
+    rows = slow_lines(text)
+    if isinstance(rows, tuple):
+        return rows
+    faults = [(at, slow_row(line, SLOW_ROWS, {"ground": 2, "joint": 4})) for at, line in rows]
+    return next(((at, *found) for at, found in faults if found), None)
 
 
 class TestAgainstSlow(unittest.TestCase):
@@ -241,11 +204,12 @@ class TestAgainstSlow(unittest.TestCase):
     def some_row(self, source):
         key = source.choice(list(SLOW_ROWS))
         words = key.split()
-        shape = SLOW_ROWS[key] + ("nnr" * source.randint(0, 2) if words[0] == "joint" else "")
+        shape = SLOW_ROWS[key].replace("+", "nnr" * source.randint(0, 2))
         made = [words[1] if form == "?" else self.some_word(source, form) for form in shape]
         words = [words[0], *made]
         if source.random() < 0.2:
-            words[source.randrange(len(words))] = source.choice(["", "x", "A", "0", "fixed", "0/1", "slide", "joint", "rod"])
+            words[source.randrange(len(words))] = source.choice(["", "x", "A", "0", "fixed", "0/1", "slide", "joint",
+                "rod"])
         if source.random() < 0.12:
             words = words[:source.randint(1, len(words))]
         if source.random() < 0.08:
@@ -264,7 +228,8 @@ class TestRunRows(unittest.TestCase):
         self.assertEqual(outcomes, [(1, "done"), (2, "unknown"), (3, "undone"), (4, "empty")])
         self.assertEqual((yard.records, undone(yard)), ([], [setting("a", 0, 0, "fixed")]))
         self.assertEqual(run_rows(""), (Yard(), []))
-        yard, outcomes = run_rows("joint undo 0 0 none\njoint redo 1 0 none undo undo rod\ncut redo\ndrop redo\ncut undo\n")
+        yard, outcomes = run_rows(
+            "joint undo 0 0 none\njoint redo 1 0 none undo undo rod\ncut redo\ndrop redo\ncut undo\n")
         self.assertEqual([word for _, word in outcomes], ["done", "done", "unknown", "done", "unknown"])
         for rule in ("free", "carry", "hold", "stand"):
             yard, outcomes = run_rows("", rule=rule)
@@ -312,22 +277,26 @@ redo
         self.assertEqual([word for _, word in outcomes], ["done"] * 12 + ["bounds"] * 2)
         text = "joint a 0 0 none\n" + "load a 0 0\n" * 39 + "cut zz\nundo\ncut zz\nredo\nredo\n"
         yard, outcomes = run_rows(text, rule="carry")
-        self.assertEqual([word for _, word in outcomes][39:], ["done", "bounds", "undone", "unknown", "redone", "empty"])
+        self.assertEqual([word for _, word in outcomes][39:],
+            ["done", "bounds", "undone", "unknown", "redone", "empty"])
         self.assertEqual(yard.count(), 40)
         many = "joint b 1 1 none " + " ".join(f"n{k} a rod" for k in range(31)) + "\n"
         self.assertEqual(run_rows("joint a 0 0 none\n" + many)[1], [(1, "done"), (2, "bounds")])
-        self.assertEqual(run_rows("joint a 0 0 none\n" + many.replace(" n30 a rod", ""))[1], [(1, "done"), (2, "repeated")])
+        self.assertEqual(run_rows("joint a 0 0 none\n" + many.replace(" n30 a rod", ""))[1],
+            [(1, "done"), (2, "repeated")])
 
     def test_refused_rows_change_nothing(self):
         good = write_deeds(base().records)
         # What was undone stays for a redo, also if rows between are refused.
         text = good + "undo\ncut zz\nbar n a a rod\njoint a 0 0 none\nground a none\nredo\n"
         yard, outcomes = run_rows(text, rule="stand")
-        self.assertEqual([word for _, word in outcomes[3:]], ["undone", "unknown", "zero", "repeated", "unsafe", "redone"])
+        self.assertEqual([word for _, word in outcomes[3:]],
+            ["undone", "unknown", "zero", "repeated", "unsafe", "redone"])
         self.assertEqual(look(yard), look(base("stand")))
 
     def test_reads_all_first(self):
-        for text, line, column, word in [("cut a\ncut a\ncut\n", 3, 4, "count"), ("joint a 0 0 none\nxyz\n", 2, 1, "row")]:
+        for text, line, column, word in [("cut a\ncut a\ncut\n", 3, 4, "count"),
+            ("joint a 0 0 none\nxyz\n", 2, 1, "row")]:
             check_error(self, BadText, {"line": line, "column": column, "fault": word}, run_rows, text)
 
     def test_against_a_yard(self):
@@ -363,7 +332,8 @@ redo
         x, y = source.randint(0, 2), source.randint(0, 1)
         across = source.choice(["none", "fixed", "fixed", "slide 1 0", "slide 0 -1/2"])
         return source.choice([
-            f"joint {name} {x} {y} {across}", f"joint {name} {x} {y} fixed", f"joint {name} {x} {y} {across} {bar} {other} tie",
+            f"joint {name} {x} {y} {across}", f"joint {name} {x} {y} fixed",
+            f"joint {name} {x} {y} {across} {bar} {other} tie",
             f"joint {name} {x} {y} none {bar} {other} rod x {third} rod", f"bar {bar} {name} {other} rod",
             f"ground {name} {across}", f"load {name} {x - 1} {y}", f"cut {bar}", f"drop {name}", "undo", "redo", "undo",
         ])

@@ -183,7 +183,8 @@ class TestDrive(unittest.TestCase):
         def answer(pull, twist, a, b):
             return ("blocked", [("ab", q(pull))], [("ab", q(twist))], forces(a=a, b=b))
 
-        for pull, twist, due in [(1, 0, True), (0, 1, True), (-2, 5, True), (0, 0, False), (75, 2, False), (75, 1, True)]:
+        for pull, twist, due in [(1, 0, True), (0, 1, True), (-2, 5, True), (0, 0, False), (75, 2, False),
+            (75, 1, True)]:
             x, y = pull * 3 + twist * 4, pull * 4 - twist * 3
             good = answer(pull, twist, (-x, -y), (x, y))
             self.assertIs(is_drive(frame, drives, good), due)
@@ -220,7 +221,8 @@ class TestDrive(unittest.TestCase):
                 check_error(self, WrongKind, {"argument": "drives"}, call, frame, [("stretch", "ab", value)])
             for drives, name in [
                 ([("turn", "ab", q(1)), ("turn", "ab", q(1))], "ab"),
-                ([("turn", "zz", q(1)), ("stretch", "zz", q(1)), ("stretch", "yy", q(1)), ("stretch", "zz", q(0))], "zz"),
+                ([("turn", "zz", q(1)), ("stretch", "zz", q(1)), ("stretch", "yy", q(1)), ("stretch", "zz", q(0))],
+                    "zz"),
                 ([("turn", word, q(1)) for word in ("x", "y", "z", "y", "x")], "y"),
             ]:
                 check_error(self, RepeatedName, {"repeated": name}, call, frame, drives)
@@ -233,7 +235,8 @@ class TestDrive(unittest.TestCase):
         self.assertIs(is_drive(arm(), drives, drive(arm(), drives)), True)
 
     def test_nothing_changes(self):
-        frame, drives = triangle(grounds=[("a", "fixed"), ("b", "fixed")]), [("stretch", "ab", q(1)), ("turn", "bc", q(1))]
+        frame = triangle(grounds=[("a", "fixed"), ("b", "fixed")])
+        drives = [("stretch", "ab", q(1)), ("turn", "bc", q(1))]
         before = copy.deepcopy(drives)
         answer = drive(frame, drives)
         is_drive(frame, drives, answer)
@@ -313,12 +316,14 @@ class TestHalfway(unittest.TestCase):
 
     def test_alike(self):
         def two(x, y, role="rod", ground=("a", "fixed"), name="b", start=(0, 0)):
-            return Frame([("a", q(start[0]), q(start[1])), (name, q(x), q(y))], [("ab", "a", name, role)], grounds=[ground])
+            return Frame([("a", q(start[0]), q(start[1])), (name, q(x), q(y))], [("ab", "a", name, role)],
+                grounds=[ground])
 
         frame = two(3, 4)
         halfway(frame, two(5, 0))
         for other in [
-            two(5, 1), two(3, 4, role="tie"), two(3, 4, ground=("b", "fixed")), two(3, 4, name="c", ground=("a", "fixed")),
+            two(5, 1), two(3, 4, role="tie"), two(3, 4, ground=("b", "fixed")),
+            two(3, 4, name="c", ground=("a", "fixed")),
             two(3, 4, ground=("a", point(1, 0))), Frame(frame.joints, frame.bars), two(4, 5, start=(1, 1)),
             Frame(frame.joints[::-1], frame.bars, grounds=frame.grounds), Frame([], []), two(3, 5),
             Frame(frame.joints, [("ab", "b", "a", "rod")], grounds=frame.grounds),

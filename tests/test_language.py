@@ -317,7 +317,8 @@ class TestCode(unittest.TestCase):
                     fine.add(node.value)
                 elif isinstance(node, ast.Compare):
                     fine.update(node.comparators)
-                elif isinstance(node, ast.Call) and isinstance(node.func, ast.Name) and node.func.id in ("list", "dict"):
+                elif isinstance(node, ast.Call) and isinstance(node.func, ast.Name) and node.func.id in ("list",
+                    "dict"):
                     fine.update(node.args)
                 elif isinstance(node, ast.Call):
                     self.assertNotIsInstance(node.func, ast.Subscript, f"{path} {node.lineno}")

@@ -55,10 +55,12 @@ class TestCourse(unittest.TestCase):
         grounds = [("b", "fixed"), ("a", "fixed")]
         lines = bars("da", "bd", "dc", "ca", "fb", "af", "ec", "ed", "ea")
         self.assertEqual(course(Frame(places, lines, grounds=grounds)), ("placings", [
-            ("meet", "d", "da", "bd"), ("meet", "e", "ed", "ea"), ("meet", "c", "dc", "ca"), ("meet", "f", "fb", "af")]))
+            ("meet", "d", "da", "bd"), ("meet", "e", "ed", "ea"), ("meet", "c", "dc", "ca"),
+            ("meet", "f", "fb", "af")]))
         # With the bars in another order the first two to placed joints are others.
         self.assertEqual(course(Frame(places, lines[::-1], grounds=grounds)), ("placings", [
-            ("meet", "d", "bd", "da"), ("meet", "e", "ea", "ed"), ("meet", "c", "ec", "ca"), ("meet", "f", "af", "fb")]))
+            ("meet", "d", "bd", "da"), ("meet", "e", "ea", "ed"), ("meet", "c", "ec", "ca"),
+            ("meet", "f", "af", "fb")]))
 
     def test_slides(self):
         places = joints(a=(0, 0), b=(2, 0), c=(3, 3), d=(5, 5))
@@ -117,7 +119,8 @@ class TestCourse(unittest.TestCase):
         check_error(self, UnknownName, {"unknown": "o"}, course, frame, crank="o")
         check_error(self, NotCrank, {"subject": "pr"}, course, frame, crank="pr")
         # A crank has one fixed end and one without a ground.
-        for grounds in [[("o", "fixed"), ("p", "fixed")], [("o", point(1, 0))], [("o", "fixed"), ("p", point(1, 0))], []]:
+        for grounds in [[("o", "fixed"), ("p", "fixed")], [("o", point(1, 0))], [("o", "fixed"), ("p", point(1, 0))],
+            []]:
             other = Frame(frame.joints, frame.bars, grounds=grounds)
             check_error(self, NotCrank, {"subject": "op"}, course, other, crank="op")
         for grounds in [[("o", "fixed")], [("p", "fixed")]]:
@@ -181,7 +184,8 @@ class TestPositions(unittest.TestCase):
         frame = Frame(joints(b=(6, 0), a=(0, 0), c=(3, 4)), bars("ac", "bc"), grounds=grounds)
         placed = [row("b", 6, 0), row("a", 0, 0)]
         for squares, due in [
-            ([("ac", q(4)), ("bc", q(9))], ("far", "c", placed)), ([("ac", q(100)), ("bc", q(1))], ("near", "c", placed)),
+            ([("ac", q(4)), ("bc", q(9))], ("far", "c", placed)),
+            ([("ac", q(100)), ("bc", q(1))], ("near", "c", placed)),
             ([("ac", q(24))], ("root", "c", meet(point(0, 0), point(6, 0), q(24), q(25)), placed)),
             ([("ac", q(9)), ("bc", q(9))], ("places", placed + [row("c", 3, 0)])),
         ]:
@@ -198,7 +202,8 @@ class TestPositions(unittest.TestCase):
     def test_order_of_placed(self):
         # The fixed joints in the order of the joints, then the pin, then the others as they are placed.
         places = joints(r=(13, 4), p=(3, 4), e=(10, 0), z=(13, 9), o=(0, 0))
-        frame = Frame(places, bars("op", "pr", "re", "zr"), grounds=[("o", "fixed"), ("z", point(0, 1)), ("e", "fixed")])
+        frame = Frame(places, bars("op", "pr", "re", "zr"),
+            grounds=[("o", "fixed"), ("z", point(0, 1)), ("e", "fixed")])
         found = positions(frame, turn=("op", q(1)), squares=[("zr", q(1))])
         self.assertEqual(found, ("far", "z", [row("e", 10, 0), row("o", 0, 0), row("p", -4, 3), row("r", 6, 3)]))
 
@@ -224,7 +229,8 @@ class TestPositions(unittest.TestCase):
                     self.assertEqual(found, ("wide", "b", [row("a", 0, 0)]))
             # The y is looked at, too.
             for y in [(size, 1), (-1, size)]:
-                frame = Frame([("a", q(0), q(0)), ("b", q(0), y)], bars("ab"), grounds=[("a", "fixed"), ("b", point(0, 1))])
+                frame = Frame([("a", q(0), q(0)), ("b", q(0), y)], bars("ab"),
+                    grounds=[("a", "fixed"), ("b", point(0, 1))])
                 self.assertEqual(positions(frame)[0], word)
         # The fixed joints and the pin are not looked at.
         far = (10 ** 300, 1)
@@ -237,7 +243,8 @@ class TestPositions(unittest.TestCase):
 
     def test_wide_root(self):
         # A spot with a root is never wide.
-        frame = Frame([("a", q(0), q(0)), ("b", (10 ** 250, 1), q(0))], bars("ab"), grounds=[("a", "fixed"), ("b", point(1, 0))])
+        frame = Frame([("a", q(0), q(0)), ("b", (10 ** 250, 1), q(0))], bars("ab"),
+            grounds=[("a", "fixed"), ("b", point(1, 0))])
         word, joint, spot, placed = positions(frame, squares=[("ab", (10 ** 501, 1))])
         self.assertEqual((word, joint, spot[0], placed), ("root", "b", "root", [row("a", 0, 0)]))
 
@@ -330,7 +337,8 @@ class TestPositions(unittest.TestCase):
             check_error(self, WrongKind, {"argument": "turn"}, call, frame, turn=value, squares=7)
         for value in NO_NAMES:
             check_error(self, WrongKind, {"argument": "turn"}, call, frame, turn=(value, q(1)), squares=7)
-            check_error(self, WrongKind, {"argument": "squares"}, call, frame, turn=("zz", q(1)), squares=[(value, q(1))])
+            check_error(self, WrongKind, {"argument": "squares"}, call, frame, turn=("zz", q(1)),
+                squares=[(value, q(1))])
         for value in NO_RATIOS:
             check_error(self, WrongKind, {"argument": "turn"}, call, frame, turn=("zz", value), squares=7)
         for value in NO_SQUARES:

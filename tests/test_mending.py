@@ -132,7 +132,8 @@ class TestSpare(unittest.TestCase):
         word, velocities = spare(frame, "bc")
         self.assertIs(is_spare(frame, "bc", (word, velocities)), True)
         # The mechanism of the whole frame may be added.
-        for c, d, due in [((0, 1), (0, 0), True), ((5, 1), (5, 0), True), ((0, 2), (0, 0), False), ((0, 1), (1, 0), False),
+        for c, d, due in [((0, 1), (0, 0), True), ((5, 1), (5, 0), True), ((0, 2), (0, 0), False),
+            ((0, 1), (1, 0), False),
                           ((5, 0), (5, 0), False), ((0, -1), (0, 0), False), ((0, 1), (0, 1), False)]:
             answer = ("needed", forces(a=(0, 0), b=(0, 0), c=c, d=d))
             self.assertIs(is_spare(frame, "bc", answer), due, (c, d))
@@ -239,7 +240,8 @@ class TestThin(unittest.TestCase):
             ("gone", ["ac"], []), ("gone", ("ac",), good[2]), ("gone", ["ac"], tuple(good[2])), ("gone", "ac", good[2]),
             ("gone", ["ac", "ac"], good[2] * 2), ("gone", ["bd", "ac"], good[2] * 2), ("gone", ["ca"], good[2]),
             ("gone", ["ac"], good[2] * 2), ("gone", ["ac"], [["ac", pulls, reactions]]), ("gone", ["ac"], [None]),
-            ("gone", ["ac"], [("ac", pulls)]), ("gone", ["ac"], [("bd", pulls, reactions)]), ("gone", [["ac"]], good[2]),
+            ("gone", ["ac"], [("ac", pulls)]), ("gone", ["ac"], [("bd", pulls, reactions)]),
+            ("gone", [["ac"]], good[2]),
             ("gone", ["ac"], [("ac", pulls, [("a", q(0), q(0))])]), ("gone", ["ac"], [("ac", pulls[::-1], [])]),
             ("gone", ["ac", "bd"], [("ac", pulls, []), ("bd", pulls, [])]), ("gone", None, None), {}, frame,
             ("gone", ["ac"], [("ac", [(name, q(-pull[0], pull[1])) for name, pull in pulls], [])]),
@@ -307,12 +309,15 @@ class TestOffered(unittest.TestCase):
             for offers, name in [
                 ([("n", "x", "y", one), ("ab", "z", "z", one)], "ab"), ([("ba", "b", "a", one)], "ba"),
                 ([("n", "a", "b", one), ("ab", "x", "x", one)], "n"),
-                ([("n", "x", "y", one), ("m", "y", "x", one)], "m"), ([("n", "x", "x", one), ("n", "y", "z", one)], "n"),
-                ([("n", "x", "x", one), ("m", "x", "x", one)], "m"), ([("n", "a", "c", one), ("m", "c", "a", one)], "m"),
+                ([("n", "x", "y", one), ("m", "y", "x", one)], "m"),
+                ([("n", "x", "x", one), ("n", "y", "z", one)], "n"),
+                ([("n", "x", "x", one), ("m", "x", "x", one)], "m"),
+                ([("n", "a", "c", one), ("m", "c", "a", one)], "m"),
             ]:
                 check_error(self, RepeatedName, {"repeated": name}, call, frame, offers)
             for offers, name in [
-                ([("n", "x", "y", one)], "x"), ([("n", "a", "y", one)], "y"), ([("n", "a", "a", one), ("m", "b", "y", one)],
+                ([("n", "x", "y", one)], "x"), ([("n", "a", "y", one)], "y"),
+                ([("n", "a", "a", one), ("m", "b", "y", one)],
                                                                               "y"),
                 ([("n", "x", "x", one)], "x"), ([("n", "ab", "a", one)], "ab"),
             ]:
@@ -439,11 +444,14 @@ class TestMend(unittest.TestCase):
         for answer in [
             None, 1, word, (), (word, chosen), list(good), (*good, 1), ("Mended", chosen, certificates), {}, frame,
             (word, tuple(chosen), certificates), (word, chosen, tuple(certificates)), (word, [], certificates),
-            (word, ["n", "m"], []), (word, ["m", "m"], certificates), (word, chosen, []), (word, chosen, certificates * 2),
-            (word, ["n"], certificates), (word, ["ab"], certificates), ("beyond", moves), ("beyond", chosen, certificates),
+            (word, ["n", "m"], []), (word, ["m", "m"], certificates), (word, chosen, []),
+            (word, chosen, certificates * 2),
+            (word, ["n"], certificates), (word, ["ab"], certificates), ("beyond", moves),
+            ("beyond", chosen, certificates),
             (word, chosen, [("m", pulls, reactions)]), (word, chosen, [(bar, pulls[:5], reactions)]),
             (word, chosen, [(bar, pulls, reactions[::-1])]), (word, chosen, [[bar, pulls, reactions]]),
-            (word, chosen, [(bar, pulls, forces(a=(7, 0), b=(0, 0)))]), (word, None, None), (None, chosen, certificates),
+            (word, chosen, [(bar, pulls, forces(a=(7, 0), b=(0, 0)))]), (word, None, None),
+            (None, chosen, certificates),
             (word, "m", certificates), (word, chosen, [(bar, [(name, q(0)) for name, _ in pulls], reactions)]),
             ("beyond", None), ("beyond", [(row[0], q(0), q(0)) for row in frame.joints]), (word, [["m"]], certificates),
             (word, chosen, [(bar, pulls, reactions, 1)]), (word, chosen, [None]),

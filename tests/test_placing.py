@@ -14,7 +14,8 @@ NO_SPOTS = [
     ("root", q(1), point(1, 2), q(1)), ("root", point(1, 2), point(1, 2), 2), ("far", q(1)), ("near", q(1)),
     ("same",), ("At", point(1, 2)), ("root", point(1, 2), point(1, 2), q(1), q(1)), ("root", point(1, 2), q(1)), {},
     ("root", [q(1), q(2)], point(1, 2), q(1)), ("root", point(1, 2), point(1, 2), (2, 2)), (None, point(1, 2)),
-    ("at", point(1, 2), point(1, 2), q(1)), ("root", point(1, 2)), ([], point(1, 2)), ("Root", point(1, 2), point(1, 2), q(1)), (None, point(1, 2), point(1, 2), q(1)),
+    ("at", point(1, 2), point(1, 2), q(1)), ("root", point(1, 2)), ([], point(1, 2)),
+    ("Root", point(1, 2), point(1, 2), q(1)), (None, point(1, 2), point(1, 2), q(1)),
      (["at"], point(1, 2)),
     ("root", point(1, 2), point(1, 2), None), ("root", point(1, 2), point(1, 2), True),
 ]
@@ -227,7 +228,8 @@ class TestSpots(unittest.TestCase):
             (point(0, 0), q(4), 0), (point(0, 0), q(3), 1), (point(0, 0), (4 * 10 ** 30 + 1, 10 ** 30), -1),
             (point(1, 0), q(2), 1), (point(1, 0), q(3), -1),
             (point(1, 0), q(5 - Fraction(28284271, 10 ** 7)), -1), (point(1, 0), q(5 - Fraction(28284272, 10 ** 7)), 1),
-            (point(-1, 0), q(5 + Fraction(28284271, 10 ** 7)), 1), (point(-1, 0), q(5 + Fraction(28284272, 10 ** 7)), -1),
+            (point(-1, 0), q(5 + Fraction(28284271, 10 ** 7)), 1),
+            (point(-1, 0), q(5 + Fraction(28284272, 10 ** 7)), -1),
         ]:
             self.assertEqual(distance_sign(spot, centre, squared), due)
         self.assertEqual(distance_sign(("at", point(3, 4)), point(0, 0), q(25)), 0)

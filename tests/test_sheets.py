@@ -1,13 +1,11 @@
 import copy
 import random
-import re
 import unittest
-from math import gcd
 
 from helpers import (
     HUGE, NO_FRAMES, NO_NAMES, bars, check_error, check_fresh, forces, joints, point, q, triangle,
 )
-from reference import some_frames
+from reference import slow_columns, slow_lines, slow_row, some_frames
 from standframes.errors import BadText, OutOfBounds, RepeatedName, UnknownName, WrongKind
 from standframes.frames import Frame
 from standframes.loads import Load
@@ -135,7 +133,8 @@ class TestWriteSheet(unittest.TestCase):
             "joint z -1/3 7\njoint fixed 0 1\njoint joint 10 22/7\nbar bar z fixed tie\nbar z joint z prop\n"
             "bar rod fixed joint rod\nground joint slide 1 0\nground z fixed\nground fixed slide -2 3\nload load\n"
             "push load fixed 0 -1\npush load z 1 0\nload push\nload a\npush a joint 1 1\nask hold push\n"
-            "ask lock z fixed\nask kept\nask freedom\nask steady\nask stresses\nask carry a\nask freedom\nask lock z z\n")
+            "ask lock z fixed\nask kept\nask freedom\nask steady\nask stresses\nask carry a\nask freedom\n"
+            "ask lock z z\n")
         sheet = Sheet(frame, loads, asks)
         self.assertEqual(write_sheet(sheet), text)
         self.assertEqual(read_sheet(text), sheet)
@@ -314,7 +313,8 @@ push w a -1 -1
         base = "joint a 0 0\njoint b 1 0\njoint c 0 1\nbar ab a b rod\nground a fixed\nload w\n"
         for row, column in [
             ("joint a 5 5", 7), ("joint b 0 0", 7), ("bar ab b c rod", 5), ("bar ba a b rod", 5), ("bar ba b a tie", 5),
-            ("bar ab x y rod", 5), ("ground a fixed", 8), ("ground a slide 1 0", 8), ("load w", 6), ("bar ab a a rod", 5),
+            ("bar ab x y rod", 5), ("ground a fixed", 8), ("ground a slide 1 0", 8), ("load w", 6),
+            ("bar ab a a rod", 5),
         ]:
             fault(self, f"{base}{row}\n", 7, column, "repeated")
         # A joint, a bar and a load may have the same name.
@@ -324,7 +324,8 @@ push w a -1 -1
     def test_unknown(self):
         base = "joint a 0 0\njoint b 1 0\nload w\nbar ab a b rod\n"
         for row, column in [
-            ("bar x y z rod", 7), ("bar x a z rod", 9), ("bar x z a rod", 7), ("bar x x x rod", 7), ("bar x ab a rod", 7),
+            ("bar x y z rod", 7), ("bar x a z rod", 9), ("bar x z a rod", 7), ("bar x x x rod", 7),
+            ("bar x ab a rod", 7),
             ("ground c fixed", 8), ("ground w slide 1 0", 8), ("push x y 0 0", 6), ("push w y 0 0", 8),
             ("push a a 0 0", 6), ("push w ab 0 0", 8), ("ask carry x", 11), ("ask hold a", 10), ("ask lock x y", 10),
             ("ask lock a y", 12), ("ask lock w a", 10), ("ask carry ab", 11), ("ground ab fixed", 8),
@@ -356,20 +357,6 @@ push w a -1 -1
             check_error(self, WrongKind, {"argument": "text"}, read_sheet, value)
 
 
-def slow_number(word):
-    found = re.fullmatch("(-?)([0-9]{1,400})(?:/([0-9]{1,400}))?", word)
-    if not found:
-        return None
-    minus, above, below = found.groups()
-    if any(part and part != "0" and part.startswith("0") for part in (above, below)):
-        return None
-    if below is None:
-        return None if minus and above == "0" else q(int(minus + above))
-    if int(below) < 2 or gcd(int(above), int(below)) != 1:
-        return None
-    return (int(minus + above), int(below))
-
-
 SLOW_ROWS = {
     "joint": "n##", "bar": "nnnr", "ground fixed": "n?", "ground slide": "n?##", "load": "n", "push": "nn##",
     "ask carry": "?n", "ask hold": "?n", "ask lock": "?nn", "ask steady": "?", "ask freedom": "?", "ask kept": "?",
@@ -384,45 +371,18 @@ class SlowSheet:
         self.joints, self.bars, self.grounds, self.loads, self.asks = {}, {}, [], {}, 0
 
     def read(self, text):
-        lines = text.split("\n")
-        if lines[-1]:
-            return (len(lines), len(lines[-1]) + 1, "end")
-        for at, line in enumerate(lines[:-1], 1):
-            if line and line[0] != "#":
-                found = self.row(line)
-                if found:
-                    return (at, *found)
+        rows = slow_lines(text)
+        if isinstance(rows, tuple):
+            return rows
+        for at, line in rows:
+            found = slow_row(line, SLOW_ROWS, {"ground": 2, "ask": 1}) or self.take(line)
+            if found:
+                return (at, *found)
         return None
 
-    def row(self, line):
-        words = line.split(" ")
-        at = [sum(len(word) + 1 for word in words[:k]) + 1 for k in range(len(words))]
-        if "" in words:
-            return (at[words.index("")], "spacing")
-        first = words[0]
-        if first not in {key.split()[0] for key in SLOW_ROWS}:
-            return (1, "row")
-        shape = SLOW_ROWS.get(first)
-        if shape is None:
-            place = {"ground": 2, "ask": 1}[first]
-            if len(words) <= place:
-                return (len(line) + 1, "count")
-            shape = SLOW_ROWS.get(f"{first} {words[place]}")
-            if shape is None:
-                return (at[place], "word")
-        if len(words) > len(shape) + 1:
-            return (at[len(shape) + 1], "count")
-        if len(words) <= len(shape):
-            return (len(line) + 1, "count")
-        if first == "ground" and len(words) == 5 and slow_number(words[3]) == slow_number(words[4]) == q(0):
-            words = words[:3] + ["nothing", "0"]
-        tests = {
-            "n": lambda word: re.fullmatch("[a-z][a-z0-9]{0,7}", word), "r": lambda word: word in ("rod", "tie", "prop"),
-            "#": slow_number, "?": lambda word: True}
-        for k, (word, form) in enumerate(zip(words[1:], shape), 1):
-            if not tests[form](word):
-                return (at[k], "word")
-        found = getattr(self, first)(*words[1:])
+    def take(self, line):
+        words, at = slow_columns(line)
+        found = getattr(self, words[0])(*words[1:])
         return found and (at[found[0]], found[1])
 
     def joint(self, name, x, y):

@@ -39,7 +39,8 @@ class TestBuilding(unittest.TestCase):
             "bar bl b l tie\nground a fixed\nground b fixed\nload wind\npush wind t 1 0\npush wind l 1/2 0\n"
             "ask carry wind\nask hold wind\nask freedom\n")
         sheet = read_sheet(text)
-        self.assertEqual(write_sheet(sheet), text.replace("push wind t 1 0\npush wind l 1/2 0", "push wind l 1/2 0\npush wind t 1 0"))
+        self.assertEqual(write_sheet(sheet),
+            text.replace("push wind t 1 0\npush wind l 1/2 0", "push wind l 1/2 0\npush wind t 1 0"))
         frame, load = sheet.frame, sheet.loads[0][1]
         word, order = standing_order(frame)
         self.assertEqual((word, order), ("order", ["a", "b", "l", "t"]))
@@ -120,12 +121,14 @@ class TestAnswers(unittest.TestCase):
     def test_long_answers(self):
         # What the program returned may be passed back whatever its size.
         places = joints(a=(0, 0), b=(999999937, 1), c=(999999893, 999999883), d=(7, 999999751))
-        frame = Frame(places, bars("ab", "bc", "cd", "da", "ac", "bd"), grounds=[("a", "fixed"), ("b", point(1, 999999733))])
+        frame = Frame(places, bars("ab", "bc", "cd", "da", "ac", "bd"),
+            grounds=[("a", "fixed"), ("b", point(1, 999999733))])
         load = Load(forces(c=(999999677, 999999667), d=(999999613, 1)))
         for answer, judge in [(carry(frame, load), is_carry), (hold(frame, load), is_hold)]:
             self.assertIs(judge(frame, load, answer), True)
             self.assertEqual(read_certificate(write_certificate(answer)), answer)
-        for swept in sweep(Frame(frame.joints, frame.bars[:2], grounds=frame.grounds[:1]), "ab", [q(999999937, 999999893)]):
+        for swept in sweep(Frame(frame.joints, frame.bars[:2], grounds=frame.grounds[:1]), "ab",
+            [q(999999937, 999999893)]):
             self.assertEqual(swept[0], "stuck")
 
     def test_crossings_of_modules(self):
@@ -189,7 +192,8 @@ class TestAnswers(unittest.TestCase):
         word, places = positions(frame, turn=("op", q(1, 3)))
         self.assertEqual(word, "places")
         turned = moved(frame, places)
-        self.assertEqual([turned.squared(bar) for bar in ("op", "pr", "re")], [frame.squared(bar) for bar in ("op", "pr", "re")])
+        self.assertEqual([turned.squared(bar) for bar in ("op", "pr", "re")],
+            [frame.squared(bar) for bar in ("op", "pr", "re")])
         self.assertIs(fits_positions(turned, frame.joints), True)
         self.assertIs(halfway(frame, turned)[0] == frame, False)
         spot = meet(point(0, 0), point(3, 0), q(4), q(4))

@@ -27,7 +27,8 @@ NO_DEEDS = [
     ("joint", "a", ONE, ONE, None, (("b", "c", "Rod"),)), ("joint", "a", ONE, ONE, None, (("b", "c", "rod", 1),)),
     ("joint", "a", ONE, ONE, None, ("b", "c", "rod")), ("joint", "a", ONE, ONE, None, (None,)),
     ("joint", "a", ONE, ONE, "none", ()), ("joint", "a", ONE, ONE, True, ()), ["joint", "a", ONE, ONE, None, ()],
-    ("bar", "n", "a", "b"), ("bar", "n", "a", "b", "Rod"), ("bar", "n", "a", "b", None), ("bar", "n", "a", "b", "rod", 1),
+    ("bar", "n", "a", "b"), ("bar", "n", "a", "b", "Rod"), ("bar", "n", "a", "b", None),
+    ("bar", "n", "a", "b", "rod", 1),
     ["bar", "n", "a", "b", "rod"], ("bar", "n", "a", 1, "rod"), ("bar", ("n", "a", "b", "rod")),
     ("ground", "a"), ("ground", "a", "free"), ("ground", "a", ((0, 1), (0, 1))), ("ground", "a", None, None),
     ("ground", "a", "none"), ("ground", "a", False), ("ground", "a", [ONE, ONE]), ("ground", "a", (1, 1)),
@@ -130,7 +131,8 @@ class TestDeeds(unittest.TestCase):
         yard.work(("load", "a", q(1), q(2)))
         yard.work(("load", "c", q(1), q(2)))
         yard.work(("drop", "a"))
-        self.assertEqual(yard.frame, Frame(joints(b=(4, 0), c=(0, 3)), [("bc", "c", "b", "tie")], grounds=[("b", "fixed")]))
+        self.assertEqual(yard.frame, Frame(joints(b=(4, 0), c=(0, 3)), [("bc", "c", "b", "tie")],
+            grounds=[("b", "fixed")]))
         self.assertEqual(yard.load.entries, forces(c=(1, 2)))
         # The names are free again; what is new comes last.
         yard.work(setting("a", 0, 0, "fixed", ("ab", "b", "rod")))
@@ -215,7 +217,8 @@ class TestRefusals(unittest.TestCase):
                 # A new joint is not there yet.
                 (setting("d", 9, 9, None, ("n", "d", "rod"), ("m", "y", "rod")), "d"),
                 (setting("d", 9, 9, None, ("n", "a", "rod"), ("d", "d", "rod")), "d"),
-                (("bar", "n", "x", "y", "rod"), "x"), (("bar", "n", "a", "y", "rod"), "y"), (("bar", "n", "x", "x", "rod"), "x"),
+                (("bar", "n", "x", "y", "rod"), "x"), (("bar", "n", "a", "y", "rod"), "y"),
+                (("bar", "n", "x", "x", "rod"), "x"),
                 (("bar", "n", "ab", "a", "rod"), "ab"), (("ground", "x", None), "x"), (("ground", "ab", "fixed"), "ab"),
                 (("load", "x", q(0), q(0)), "x"), (("cut", "x"), "x"), (("cut", "a"), "a"), (("drop", "x"), "x"),
                 (("drop", "ab"), "ab"),
@@ -288,7 +291,8 @@ class TestRefusals(unittest.TestCase):
         deed = setting("a", 0, 0, None, ("ab", "zz", "rod"))
         self.refused(yard, deed, RepeatedName, {"repeated": "a"})
         self.refused(yard, setting("d", 0, 0, None, ("ab", "zz", "rod")), RepeatedName, {"repeated": "ab"})
-        self.refused(yard, setting("d", 0, 0, None, ("n", "a", "rod"), ("m", "zz", "rod")), UnknownName, {"unknown": "zz"})
+        self.refused(yard, setting("d", 0, 0, None, ("n", "a", "rod"), ("m", "zz", "rod")), UnknownName,
+            {"unknown": "zz"})
         self.refused(yard, setting("d", 0, 0, None, ("n", "a", "rod")), ZeroBar, {"subject": "n"})
         self.refused_unsafe(yard, setting("d", 0, 1, None, ("n", "a", "rod")))
 
@@ -307,7 +311,8 @@ class TestRefusals(unittest.TestCase):
         yard = Yard()
         names = [f"j{k}" for k in range(8)]
         for k, name in enumerate(names):
-            yard.work(setting(name, k, k * k, "fixed", *[(f"{name}x{other}", other, "rod") for other in names[:k]][:30]))
+            yard.work(setting(name, k, k * k, "fixed",
+                *[(f"{name}x{other}", other, "rod") for other in names[:k]][:30]))
             # 28 bars between 8 joints.
         self.assertEqual(len(yard.frame.bars), 28)
         links = [(f"n{k}", name, "rod") for k, name in enumerate(names)]
