@@ -4,6 +4,7 @@ from fractions import Fraction
 
 from standframes.frames import Frame
 from standframes.loads import Load
+from standframes.ratios import is_ratio
 
 ZERO = (0, 1)
 HUGE = 10 ** 999 + 7
@@ -112,3 +113,20 @@ def check_fresh(test, call):
     for item in lists_in(first):
         item.clear()
     test.assertEqual(call(), second)
+
+
+def spoilt(value):
+    """The value with one place that does not have its form, in each way in turn."""
+    if isinstance(value, str):
+        yield from (value + "zz", value.upper() + "A", "", None, [value], 7)
+    elif isinstance(value, int):
+        yield from (None, str(value), [value], value == 1)
+    else:
+        yield list(value) if isinstance(value, tuple) else tuple(value)
+        yield from (None, dict(enumerate(value)))
+        if is_ratio(value):
+            yield from ((2 * value[0], 2 * value[1]), (-value[0], -value[1]), value[0], (*value, 1))
+        for at, item in enumerate(value):
+            for wrong in spoilt(item):
+                rest = [*value[:at], wrong, *value[at + 1:]]
+                yield rest if isinstance(value, list) else tuple(rest)

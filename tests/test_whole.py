@@ -3,27 +3,34 @@
 import random
 import unittest
 
-from helpers import crossed_square, forces, fraction, joints, bars, point, q
+from helpers import bars, crossed_square, forces, fraction, grid, joints, point, q, qs, spoilt, wheel
 from reference import check_forces, some_frames
 from standframes.certificates import answers, read_certificate, reply, write_certificate
 from standframes.changes import bare, moved, part, without_bar
-from standframes.cheapest import lightest
-from standframes.counts import kept_bars
-from standframes.cranes import carrying_order, is_carrying_order, order_deeds, sound, standing_order
+from standframes.cheapest import is_lightest, is_tie_up, lightest, tie_up
+from standframes.counts import crowd, is_crowded, kept_bars
+from standframes.cranes import (
+    carrying_order, is_carrying_order, is_standing_order, order_deeds, sound, standing_order,
+)
 from standframes.desks import read_deeds, run_rows, write_deeds
-from standframes.drives import drive, halfway, swing
+from standframes.drives import drive, halfway, is_drive, swing
 from standframes.errors import BadText, FrameError, Unsafe
-from standframes.forces import carry, is_carry, is_own_stress
+from standframes.faces import faces, is_cover
+from standframes.forces import carry, is_carry, is_own_stress, own_stresses
 from standframes.frames import Frame
+from standframes.least import is_least, is_signed_solve, least, signed_solve
+from standframes.lifts import is_lift, lift
 from standframes.linkages import fits_positions, positions, sweep
 from standframes.loads import Load, power
-from standframes.mending import is_mend, mend, offered, spare, spare_bars, thin
-from standframes.motions import freedom, is_motion, lock, motions, stands
-from standframes.oneway import hold, is_hold, steady
+from standframes.mending import is_mend, is_spare, is_thin, mend, offered, spare, spare_bars, thin
+from standframes.motions import freedom, is_motion, is_rigid, lock, motions, rigid, stands
+from standframes.oneway import hold, is_hold, is_slack, is_steady, slack, steady
+from standframes.pictures import is_picture, picture
 from standframes.placing import meet, side_of
+from standframes.rows import is_solve, solve
 from standframes.sheets import Sheet, read_sheet, write_sheet
-from standframes.steps import take_down
-from standframes.strength import collapse, role_limits
+from standframes.steps import is_building, take_down
+from standframes.strength import collapse, is_collapse, is_sag, role_limits, sag
 from standframes.yards import Yard, keeps
 
 
@@ -205,6 +212,60 @@ class TestAnswers(unittest.TestCase):
         word, velocities = lock(without_bar(without_bar(frame, "ac"), "bd"), "a", "c")
         self.assertEqual(word, "motion")
         self.assertEqual(power(Load([]), velocities), q(0))
+
+    def test_spoilt_answers(self):
+        """No judge takes an answer in which one place does not have its form, and none raises an error."""
+        frame = crossed_square(grounds=[("a", "fixed"), ("b", point(1, 0))])
+        ties = Frame(frame.joints, [(*row[:3], "tie") for row in frame.bars], grounds=frame.grounds)
+        load, none = Load(forces(c=(1, -1))), Load([])
+        square = without_bar(without_bar(frame, "ac"), "bd")
+        offers = [("n", "a", "c", q(1)), ("m", "d", "b", q(2))]
+        one_way = [("n", "a", "c", "tie", q(1)), ("m", "d", "b", "prop", q(2))]
+        springs = [(row[0], q(2)) for row in frame.bars]
+        limits = [("ac", q(1), q(2)), ("bd", q(3), None), ("bc", q(1), q(1)), ("cd", q(1), q(1)), ("da", q(1), q(1))]
+        costs = [(row[0], q(1)) for row in frame.bars]
+        turns = [("turn", "ab", q(1)), ("stretch", "ac", q(1))]
+        rows, right = grid([1, 2], [1, 2]), qs(3, 4)
+        linkage = Frame(joints(o=(0, 0), e=(10, 0), p=(3, 4), r=(13, 4)), bars("op", "pr", "re"), grounds=[
+            ("o", "fixed"), ("e", "fixed")])
+        for find, judge, args, more in [
+            (carry, is_carry, (frame, load), {}), (carry, is_carry, (square, load), {}),
+            (hold, is_hold, (frame, load), {}), (hold, is_hold, (ties, load), {}),
+            (steady, is_steady, (frame,), {}), (steady, is_steady, (square,), {}),
+            (slack, is_slack, (ties, none, "ac"), {}), (slack, is_slack, (ties, Load(forces(b=(1, 0))), "ab"), {}),
+            (collapse, is_collapse, (frame, load, limits), {}), (collapse, is_collapse, (frame, load, []), {}),
+            (sag, is_sag, (frame, load, springs), {}), (sag, is_sag, (square, load, springs[:4]), {}),
+            (spare, is_spare, (frame, "ac"), {}), (spare, is_spare, (square, "cd"), {}),
+            (thin, is_thin, (frame, costs), {}), (mend, is_mend, (square, offers), {}), (mend, is_mend, (square, []), {}),
+            (lightest, is_lightest, (frame, load), {}), (lightest, is_lightest, (square, load), {}),
+            (tie_up, is_tie_up, (square, Load(forces(c=(1, 0))), one_way), {}),
+            (tie_up, is_tie_up, (square, Load(forces(c=(-1, 0))), one_way[:1]), {}),
+            (drive, is_drive, (frame, turns), {}), (drive, is_drive, (square, turns[:1]), {}),
+            (drive, is_drive, (square, []), {}), (take_down, is_building, (without_bar(bare(frame), "ac"),), {}),
+            (standing_order, is_standing_order, (frame,), {}), (standing_order, is_standing_order, (square,), {}),
+            (carrying_order, is_carrying_order, (frame, load), {}),
+            (carrying_order, is_carrying_order, (ties, load), {"rule": "hold"}),
+            (solve, is_solve, (rows, right), {"width": 2}), (solve, is_solve, (rows, qs(3, 3)), {"width": 2}),
+            (least, is_least, (rows, right, qs(1, 1)), {}), (least, is_least, (rows, qs(3, 3), qs(1, 1)), {}),
+            (least, is_least, (rows[:1], qs(3), qs(-1, -5)), {"signs": [0, 1]}),
+            (signed_solve, is_signed_solve, (rows, right), {"signs": [1, 0]}),
+            (signed_solve, is_signed_solve, (rows[:1], qs(3)), {"signs": [1, -1]}),
+            (faces, is_cover, (wheel(),), {}), (lambda frame: own_stresses(frame)[0], is_own_stress, (wheel(),), {}),
+            (lambda frame: motions(frame)[0], is_motion, (square,), {}),
+            (lambda frame: rigid(frame, shift=point(1, 2), turn=q(3)), is_rigid, (square,), {}),
+            (lambda frame, walks: picture(frame, walks, own_stresses(frame)[0]), is_picture, (wheel(), faces(wheel())), {}),
+            (lambda frame, walks: lift(frame, walks, own_stresses(frame)[0]), is_lift, (wheel(), faces(wheel())), {}),
+            (lambda frame, turn: positions(frame, turn=turn)[1], fits_positions, (linkage,), {"turn": ("op", q(1))}),
+            (crowd, is_crowded, (crossed_square(), "bd"), {}),
+        ]:
+            answer = find(*args, **more)
+            judged = args[:1] if judge is is_crowded else args
+            self.assertIs(judge(*judged, answer, **more), True, (judge, answer))
+            count = 0
+            for wrong in spoilt(answer):
+                count += 1
+                self.assertIs(judge(*judged, wrong, **more), False, (judge, wrong))
+            self.assertGreater(count, 9)
 
     def test_texts_of_one_kind_are_not_of_another(self):
         texts = ["joint a 0 0\n", "motion\nmove a 0 0\n", "joint a 0 0 none\n"]

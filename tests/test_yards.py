@@ -159,6 +159,25 @@ class TestDeeds(unittest.TestCase):
         yard.undo()
         check_error(self, OutOfBounds, {"argument": "number"}, yard.state, 5)
 
+    def test_every_kind_under_every_rule(self):
+        for rule in RULES:
+            yard = base(rule)
+            deeds = [
+                ("ground", "c", "fixed"), ("load", "c", q(4), q(3)), ("cut", "bc"), ("bar", "cb", "c", "b", "prop"),
+                setting("d", 4, 3, None, ("cd", "c", "tie"), ("bd", "b", "prop")), ("load", "d", q(2), q(-1)),
+                ("ground", "c", point(1, 0)), ("drop", "d"), ("ground", "c", None), ("load", "c", q(-4), q(-3)),
+                ("cut", "ac"), ("drop", "c"),
+            ]
+            for k, deed in enumerate(deeds):
+                if rule == "stand" and deed == ("cut", "ac"):
+                    # A joint on one bar moves.
+                    with self.assertRaises(Unsafe):
+                        yard.work(deed)
+                else:
+                    self.assertEqual(yard.work(deed), k + 4 - (rule == "stand" and k == 11))
+            self.assertEqual(yard.load, Load([]))
+            self.assertEqual([row[0] for row in yard.frame.joints], ["a", "b"])
+
     def test_kinds(self):
         for rule in RULES:
             yard = base() if rule == "free" else base(rule)
